@@ -1,0 +1,1 @@
+"""Lanebanks: which strides never meet in a bank."""

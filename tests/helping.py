@@ -1,0 +1,115 @@
+"""What several tests use: any values, errors as plain values, random sets and rules, plain oracles."""
+
+import random
+
+from lanebanks.errors import BadRule, BankError
+from lanebanks.distances import Meets, Never
+from lanebanks.rules import Rule
+from lanebanks.sets import NumberSet
+
+DEEP = [[[[[[[[1]]]]]]]]
+ANY = [
+    None, True, False, 0, 1, 2, -1, 33, 10 ** 40, 10 ** 40 + 1, -(10 ** 40), "", "a", "0", "12", "two words", "line\n",
+    "x" * 4000, (), (1,), (1, 2), [], [1, 2], [None, [True, "z"]], {}, {"a": 1}, {1: [2, {3: ()}]}, DEEP,
+    NumberSet.every(), Rule.modulo(4), Meets(1), Never((), ()), BadRule("x"),
+]
+
+
+def told(work, *values, **named):
+    """The class and the attributes of the BankError that a call raises; "none" if it raises none."""
+    try:
+        work(*values, **named)
+    except BankError as error:
+        return type(error), vars(error)
+    return "none"
+
+
+def same(one, other):
+    """Whether values are equal and of the same kinds throughout."""
+    if type(one) is not type(other):
+        return False
+    if isinstance(one, (list, tuple)):
+        return len(one) == len(other) and all(same(a, b) for a, b in zip(one, other))
+    if isinstance(one, dict):
+        return len(one) == len(other) and all(same(list(a), list(b)) for a, b in zip(one.items(), other.items()))
+    return one is other or one == other
+
+
+def without(test, values=None):
+    """All of the values of ANY for which a test does not hold."""
+    return [value for value in (ANY if values is None else values) if not test(value)]
+
+
+def whole(value, least, most):
+    """Whether a value is an integer within bounds, told by its kind."""
+    return type(value) is int and least <= value <= most
+
+
+def random_table(rng, many):
+    """Random nexts and marks of a digit set."""
+    marks = [rng.random() < 0.5 for _ in range(many)]
+    zeros = [[at for at in range(many) if marks[at] == mark] for mark in marks]
+    return [(rng.choice(zeros[at]), rng.randrange(many)) for at in range(many)], marks
+
+
+def random_set(rng, most=6):
+    """A random digit set of few states."""
+    return NumberSet(*random_table(rng, rng.randint(1, most)))
+
+
+def plain_member(nexts, marks, number):
+    """Whether a number is in the set of a table, digit by digit."""
+    state = 0
+    while number:
+        state = nexts[state][number % 2]
+        number //= 2
+    return marks[state]
+
+
+def listed(one, below):
+    """The numbers of a set below a bound: the states behind more and more digits of all numbers."""
+    ends = [0]
+    while len(ends) < below:
+        ends = [one.nexts[state][0] for state in ends] + [one.nexts[state][1] for state in ends]
+    return [number for number in range(below) if one.marks[ends[number]]]
+
+
+def random_rule(rng, moduli=None, ahead=4, turn=4):
+    """A random rule with few places."""
+    if moduli is None:
+        moduli = rng.choice([(2,), (3,), (4,), (5,), (2, 2), (2, 3), (3, 2, 2)])
+    banks = 1
+    for modulus in moduli:
+        banks *= modulus
+    first = [rng.randrange(banks) for _ in range(rng.randint(0, ahead))]
+    return Rule(moduli, first, [rng.randrange(banks) for _ in range(rng.randint(1, turn))])
+
+
+def plain_parts(moduli, bank):
+    """The parts of a bank, one by one."""
+    parts = []
+    for modulus in moduli:
+        parts.append(bank % modulus)
+        bank //= modulus
+    return parts
+
+
+def plain_bank(moduli, ahead, turn, address):
+    """The bank of an address as the definition tells it."""
+    sums = [0] * len(moduli)
+    place = 0
+    while address >> place:
+        if address >> place & 1:
+            weight = ahead[place] if place < len(ahead) else turn[(place - len(ahead)) % len(turn)]
+            sums = [(a + b) % m for a, b, m in zip(sums, plain_parts(moduli, weight), moduli)]
+        place += 1
+    bank, size = 0, 1
+    for part, modulus in zip(sums, moduli):
+        bank += part * size
+        size *= modulus
+    return bank
+
+
+def rng_of(seed):
+    """A row of chances that is the same at each run."""
+    return random.Random(seed)

@@ -1,0 +1,223 @@
+"""The rules of the language that a look at the files can tell."""
+
+import ast
+import os
+import re
+import unittest
+import warnings
+
+FOLDER = os.path.join(os.path.dirname(os.path.dirname(os.path.abspath(__file__))), "lanebanks")
+BUILTINS = set("""len range enumerate zip min max sum abs sorted reversed int str bool list tuple dict set isinstance ord
+repr any all divmod iter next classmethod staticmethod property Exception ValueError TypeError KeyError IndexError LookupError RuntimeError""".split())
+METHODS = set("""append clear copy count endswith extend find get index insert isalnum isalpha isdigit islower isspace
+isupper items join keys ljust lower lstrip partition pop remove replace reverse rfind rjust rpartition rsplit rstrip
+setdefault split splitlines startswith strip update upper values zfill bit_length isascii""".split())
+CHANGING = {"append", "clear", "extend", "insert", "pop", "remove", "reverse", "setdefault", "update", "add", "sort"}
+BARRED = set("""type typing typing_extensions enum Enum IntEnum StrEnum Flag IntFlag Generic Protocol ABC ABCMeta
+namedtuple NamedTuple TypedDict TYPE_CHECKING abstractmethod""".split())
+STATEMENTS = (ast.Assign, ast.AugAssign, ast.If, ast.While, ast.For, ast.Return, ast.Break, ast.Continue, ast.Pass,
+              ast.Raise, ast.Assert, ast.Delete, ast.Expr, ast.FunctionDef, ast.ClassDef, ast.ImportFrom)
+NAMES = sorted(name for name in os.listdir(FOLDER) if name != "__pycache__")
+TEXTS = {name: open(os.path.join(FOLDER, name), encoding="utf-8").read() for name in NAMES}
+TREES = {name: ast.parse(text) for name, text in TEXTS.items()}
+FUNCTIONS = [(name, node) for name in NAMES for node in ast.walk(TREES[name]) if isinstance(node, ast.FunctionDef)]
+CLASSES = [node for tree in TREES.values() for node in tree.body if isinstance(node, ast.ClassDef)]
+
+
+def tops(name):
+    """The names that a file binds at module level, imports left out."""
+    found = set()
+    for node in TREES[name].body:
+        if isinstance(node, (ast.FunctionDef, ast.ClassDef)):
+            found.add(node.name)
+        elif isinstance(node, ast.Assign):
+            found.add(node.targets[0].id)
+    return found
+
+
+def imports(name):
+    """The pairs of a module and a name that a file imports."""
+    return [(node.module, part.name) for node in TREES[name].body if isinstance(node, ast.ImportFrom)
+            for part in node.names]
+
+
+def generators():
+    """The names of the functions and methods with a yield of their own."""
+    return {node.name for _, node in FUNCTIONS if any(isinstance(part, (ast.Yield, ast.YieldFrom))
+                                                      for part in ast.walk(node))}
+
+
+class FilesTest(unittest.TestCase):
+    def test_files(self):
+        for name in NAMES:
+            self.assertRegex(name, r"^(__init__|[a-z][a-z0-9_]*)\.py$")
+
+    def test_sizes_and_characters(self):
+        for name, text in TEXTS.items():
+            lines = text.split("\n")
+            self.assertLessEqual(len(lines) - 1, 399, name)
+            self.assertTrue(all(len(line) <= 120 for line in lines), name)
+            self.assertTrue(all(" " <= letter <= "~" or letter == "\n" for letter in text), name)
+        for name, node in FUNCTIONS:
+            self.assertLessEqual(node.end_lineno - node.lineno + 1, 40, (name, node.name))
+
+    def test_no_warnings_and_barred_words(self):
+        for name, text in TEXTS.items():
+            with warnings.catch_warnings():
+                warnings.simplefilter("error")
+                compile(text, name, "exec")
+            self.assertEqual(BARRED & set(re.findall(r"\w+", text)), set(), name)
+            self.assertNotRegex(text, "dataclass|overload|contextmanager|_wall|Meta|metaclass|global |nonlocal ")
+            self.assertNotIn("%", "".join(node.value for node in ast.walk(TREES[name])
+                                          if isinstance(node, ast.Constant) and isinstance(node.value, str)))
+
+    def test_docstrings(self):
+        for name in NAMES:
+            self.assertTrue(ast.get_docstring(TREES[name]), name)
+
+    def test_imports(self):
+        edges = {}
+        for name in NAMES:
+            edges[name] = set()
+            for module, part in imports(name):
+                if module in ("math",):
+                    self.assertIn(part, ("gcd", "lcm", "isqrt"))
+                    continue
+                self.assertTrue(module.startswith("lanebanks."))
+                file = module.split(".")[1] + ".py"
+                self.assertIn(part, tops(file), (name, part))
+                self.assertGreaterEqual(TEXTS[name].count(part), 2, (name, part))
+                edges[name].add(file)
+            bound = list(tops(name)) + [part for _, part in imports(name)]
+            self.assertEqual(len(bound), len(set(bound)))
+        while edges:
+            last = [name for name in edges if not edges[name]]
+            self.assertTrue(last, "files import each other")
+            edges = {name: ends - set(last) for name, ends in edges.items() if name not in last}
+
+
+class NamesTest(unittest.TestCase):
+    def test_statements(self):
+        for name, tree in TREES.items():
+            for node in ast.walk(tree):
+                if isinstance(node, ast.stmt):
+                    self.assertIsInstance(node, STATEMENTS, name)
+                self.assertNotIsInstance(node, (ast.JoinedStr,) if name == "errors.py" else (ast.Await,), name)
+                self.assertNotIsInstance(node, ast.Div, name)
+                self.assertFalse(isinstance(node, ast.Constant) and isinstance(node.value, float), name)
+
+    def test_builtins(self):
+        known = set(dir(__builtins__)) if not isinstance(__builtins__, dict) else set(__builtins__)
+        for name, tree in TREES.items():
+            for node in ast.walk(tree):
+                if isinstance(node, ast.Name):
+                    if isinstance(node.ctx, ast.Store):
+                        self.assertNotIn(node.id, known, name)
+                    elif node.id in known:
+                        self.assertIn(node.id, BUILTINS, name)
+                if isinstance(node, (ast.FunctionDef, ast.ClassDef)):
+                    self.assertNotIn(node.name, known | {"members", "ascending"} - generators(), name)
+                if isinstance(node, ast.arg):
+                    self.assertNotIn(node.arg, known, name)
+                    self.assertIsNone(node.annotation)
+
+    def test_no_name_hides_a_class_or_an_import(self):
+        for name, function in FUNCTIONS:
+            barred = {part for _, part in imports(name)} | {node.name for node in CLASSES} & tops(name)
+            local = {node.id for node in ast.walk(function) if isinstance(node, ast.Name) and isinstance(node.ctx, ast.Store)}
+            local |= {node.arg for node in ast.walk(function) if isinstance(node, ast.arg)}
+            self.assertEqual(local & barred, set(), (name, function.name))
+
+    def test_methods(self):
+        own = {node.name for _, node in FUNCTIONS}
+        for name, tree in TREES.items():
+            for node in ast.walk(tree):
+                if isinstance(node, ast.Call) and isinstance(node.func, ast.Attribute):
+                    self.assertIn(node.func.attr, own | METHODS, name)
+
+    def test_decorators_and_stars(self):
+        for node in CLASSES:
+            self.assertEqual(node.decorator_list, [])
+            for method in [part for part in node.body if isinstance(part, ast.FunctionDef)]:
+                marks = [mark.id for mark in method.decorator_list]
+                self.assertIn(marks, ([], ["property"], ["staticmethod"], ["classmethod"]))
+                if method.args.vararg or method.args.kwarg:
+                    self.assertTrue(method.args.args, method.name)
+
+    def test_one_pass_functions_get_lists(self):
+        made = generators()
+        for name, tree in TREES.items():
+            for node in ast.walk(tree):
+                self.assertNotIsInstance(node, ast.GeneratorExp, name)
+                if isinstance(node, ast.Call) and isinstance(node.func, ast.Name) and node.func.id in made:
+                    self.assertEqual(name, "sets.py")
+
+    def test_kept_sums_are_by_whole_numbers(self):
+        for name, tree in TREES.items():
+            for node in ast.walk(tree):
+                if isinstance(node, ast.AugAssign):
+                    self.assertTrue(isinstance(node.target, ast.Name) and isinstance(node.value, ast.Constant), name)
+
+
+def is_made(value):
+    """Whether an expression creates a list, a dict or a set."""
+    if isinstance(value, ast.BinOp):
+        return is_made(value.left) and (is_made(value.right) or isinstance(value.op, ast.Mult))
+    if isinstance(value, ast.Call):
+        return isinstance(value.func, ast.Name) and value.func.id in ("list", "dict", "set", "sorted")
+    return isinstance(value, (ast.List, ast.Dict, ast.ListComp, ast.DictComp, ast.Set))
+
+
+def changed_names(function):
+    """The names of what a function changes, None for what has no plain name."""
+    found = set()
+
+    def root(node):
+        while isinstance(node, (ast.Subscript, ast.Call, ast.Attribute)):
+            if isinstance(node, ast.Attribute) and not (node.attr in CHANGING):
+                return None
+            node = node.func if isinstance(node, ast.Call) else node.value
+        return node.id if isinstance(node, ast.Name) else None
+
+    for node in ast.walk(function):
+        if isinstance(node, (ast.Subscript, ast.Attribute)) and not isinstance(node.ctx, ast.Load):
+            found.add(root(node.value) if isinstance(node, ast.Subscript) else None)
+        if isinstance(node, ast.Call) and isinstance(node.func, ast.Attribute) and node.func.attr in CHANGING:
+            found.add(root(node.func.value))
+    return found
+
+
+class OperatorsTest(unittest.TestCase):
+    def test_operators_change_nothing(self):
+        table = {}
+        for _, node in FUNCTIONS:
+            table.setdefault(node.name, []).append(node)
+        inits = {node.name: part for node in CLASSES for part in node.body if getattr(part, "name", "") == "__init__"}
+        waiting = [node for _, node in FUNCTIONS if [mark.id for mark in node.decorator_list] == ["property"]
+                   or node.name.startswith("__") and node.name not in ("__init__", "__call__")]
+        seen = []
+        while waiting:
+            function = waiting.pop()
+            if function in seen:
+                continue
+            seen.append(function)
+            given = {arg.arg for arg in ast.walk(function) if isinstance(arg, ast.arg)}
+            values = {}
+            for node in ast.walk(function):
+                if isinstance(node, ast.Assign):
+                    for target in node.targets:
+                        if isinstance(target, ast.Name):
+                            values.setdefault(target.id, []).append(node.value)
+                if isinstance(node, ast.Call):
+                    called = node.func.id if isinstance(node.func, ast.Name) else node.func.attr
+                    self.assertNotIn(called if isinstance(node.func, ast.Name) else None, given - {"cls"}, function.name)
+                    waiting.extend([inits[called]] if called in inits else table.get(called, []))
+            if function.name != "__init__":
+                for name in changed_names(function):
+                    self.assertTrue(name in values and all(is_made(value) for value in values[name]), (function.name, name))
+            self.assertFalse(any(isinstance(node, (ast.Yield, ast.YieldFrom)) for node in ast.walk(function)))
+        self.assertGreater(len(seen), 40)
+
+
+if __name__ == "__main__":
+    unittest.main()

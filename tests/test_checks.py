@@ -38,8 +38,8 @@ class ChecksTest(unittest.TestCase):
         for letter in "abcdefghijklmnopqrstuvwxyz":
             self.assertIs(is_name(letter), True)
             self.assertIs(is_name(letter.upper()), False)
-        bad = ["", "abcdefghi", "A", "aB", "a1", "1", "a b", " a", "a ", "a\n", "\n", "a_b", "a-b", "`", "{", "-", "\u00e9",
-               "a" * 4000]
+        bad = ["", "abcdefghi", "A", "aB", "a1", "1", "a b", " a", "a ", "a\n", "\n", "a_b", "a-b", "`", "{", "-",
+               "\u00e9", "a" * 4000]
         for value in bad:
             self.assertIs(is_name(value), False, value[:40])
         for value in ANY:

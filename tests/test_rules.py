@@ -6,7 +6,8 @@ from helping import ANY, plain_bank, plain_parts, random_rule, rng_of, same, tol
 from lanebanks.errors import BadNumber, BadRule, TooMany
 from lanebanks.rules import Rule
 
-MODULI = [(2,), (3,), (32,), (31,), (2, 2), (2, 3), (3, 2), (2, 2, 2), (4, 8), (16, 2), (5, 6), (2, 2, 2, 2, 2), (2, 3, 5)]
+MODULI = [(2,), (3,), (32,), (31,), (2, 2), (2, 3), (3, 2), (2, 2, 2), (4, 8), (16, 2), (5, 6), (2, 2, 2, 2, 2),
+          (2, 3, 5)]
 TOO_MANY = (TooMany, {"what": "places", "most": 24})
 
 
@@ -63,7 +64,8 @@ class ClassTest(unittest.TestCase):
     def test_equality(self):
         rule = Rule((4,), (1,), (2,))
         for other in (Rule((2, 2), (1,), (2,)), Rule((5,), (1,), (2,)), Rule((4,), (), (2,)), Rule((4,), (3,), (2,)),
-                      Rule((4,), (1,), (2, 1)), Rule((4,), (1, 1), (2,)), Rule((4,), (1,), (3,)), Rule((4,), (1,), (2, 3))):
+                      Rule((4,), (1,), (2, 1)), Rule((4,), (1, 1), (2,)), Rule((4,), (1,), (3,)),
+                      Rule((4,), (1,), (2, 3))):
             self.assertIs(rule == other, False)
             self.assertIs(rule != other, True)
         for value in ANY + ["moduli 4 ahead 1 round 2"]:
@@ -72,8 +74,8 @@ class ClassTest(unittest.TestCase):
 
     def test_bad_moduli(self):
         for moduli in [value for value in ANY if value != (1, 2)] + [
-                (1,), (0,), (-2,), (33,), (True, 2), (2.0,), ("2",), (2, None), (2, 17), (17, 2), (2, 2, 2, 2, 3), (4, 9),
-                (2,) * 6, (2, 2, 2, 2, 2, 2), [2, [2]], "22", {2: 2}, (32, 2), (10 ** 40,), (1, 2), (2, 1)]:
+                (1,), (0,), (-2,), (33,), (True, 2), (2.0,), ("2",), (2, None), (2, 17), (17, 2), (2, 2, 2, 2, 3),
+                (4, 9), (2,) * 6, (2, 2, 2, 2, 2, 2), [2, [2]], "22", {2: 2}, (32, 2), (10 ** 40,), (1, 2), (2, 1)]:
             self.assertEqual(told(Rule, moduli, None, None), (BadRule, {"part": "moduli"}), repr(moduli)[:50])
             self.assertEqual(told(Rule, moduli, (), (0,)), (BadRule, {"part": "moduli"}), repr(moduli)[:50])
         for moduli in ((2,), (32,), (2, 16), (16, 2), (2, 2, 2, 2, 2), (2, 3, 5), (31,), [4, 8], (5, 6)):
@@ -318,7 +320,8 @@ class MakersTest(unittest.TestCase):
 
     def test_modulo(self):
         for banks in range(2, 33):
-            self.check(Rule.modulo, (banks,), (banks,), lambda address: address % banks, lambda place: 2 ** place % banks)
+            self.check(Rule.modulo, (banks,), (banks,), lambda address: address % banks,
+                       lambda place: 2 ** place % banks)
         self.assertEqual(Rule.modulo(banks=6), Rule.modulo(6))
         for value in without(lambda value: whole(value, 2, 32)) + [1, 33, 0]:
             self.assertEqual(told(Rule.modulo, value), (BadRule, {"part": "banks"}))

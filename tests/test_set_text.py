@@ -7,7 +7,8 @@ from lanebanks.errors import BadSet, BadText
 from lanebanks.sets import NumberSet
 
 ENDS = [[], ["0", "+"], ["+"], ["0", "0", "+"]]
-STRANGE = ["", "x", "-1", "00", "01", "+1", "1.", "2000", "1999", "20000", "0", "1", "+", "-", "/", "//", "\n", "0\n", "++", "9" * 4000]
+STRANGE = ["", "x", "-1", "00", "01", "+1", "1.", "2000", "1999", "20000", "0", "1", "+", "-", "/", "//", "\n",
+           "0\n", "++", "9" * 4000]
 
 
 def stands(words):
@@ -57,8 +58,8 @@ class SetTextTest(unittest.TestCase):
                 self.assertEqual(told(NumberSet.read, value), (BadText, {"line": 0, "word": 0}))
 
     def test_empty_words(self):
-        for text, word in (("", 0), (" ", 0), ("0", 1), ("0 ", 1), ("0 0", 2), ("0 0 ", 2), ("0 0 + ", 3), (" 0 0 +", 0),
-                           ("0  0 +", 1), ("0 0 + /", 4), ("0 0 + / ", 4), ("0 0 +\n", 2), ("0 0 + /  0", 4),
+        for text, word in (("", 0), (" ", 0), ("0", 1), ("0 ", 1), ("0 0", 2), ("0 0 ", 2), ("0 0 + ", 3),
+                           (" 0 0 +", 0), ("0  0 +", 1), ("0 0 + /", 4), ("0 0 + / ", 4), ("0 0 +\n", 2), ("0 0 + /  0", 4),
                            ("0 0 + 0 0 +", 3), ("0\n0 +", 0), ("0 0 + / 0 0", 6), ("0 0 + / 0", 5), ("+", 0)):
             self.assertEqual(told(NumberSet.read, text), (BadText, {"line": 0, "word": word}), text)
 

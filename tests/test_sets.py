@@ -51,7 +51,8 @@ class ClassTest(unittest.TestCase):
         wrong = ANY + [[(0,)], [(0, 0, 0)], [(0, 1)], [(0, -1)], [(0, True)], [(False, 0)], [(0, None)], [0], [None],
                        ["00"], [{0: 0, 1: 0}], {0: (0, 0)}, [(0, 0), (2, 0)], [(0, 0), (0, 2)], [(1, 0), (0, -1)],
                        [(0, "0")], [(0, (0,))], [(0, 10 ** 40)], [(0, 0), ()],
-                       [(-1, 0)], [(1, 0)], [(True, 0)], [(None, 0)], [("0", 0)], [(0, 0), (-2, 0)], (x for x in ()), "00"]
+                       [(-1, 0)], [(1, 0)], [(True, 0)], [(None, 0)], [("0", 0)], [(0, 0), (-2, 0)],
+                       (x for x in ()), "00"]
         for nexts in wrong:
             for marks in [[True], (True, True), None]:
                 self.assertEqual(told(NumberSet, nexts, marks), (BadSet, {"part": "nexts"}), repr(nexts)[:60])

@@ -113,3 +113,14 @@ def plain_bank(moduli, ahead, turn, address):
 def rng_of(seed):
     """A row of chances that is the same at each run."""
     return random.Random(seed)
+
+
+def wrong_word(words, stands, ends):
+    """The index of the first word that cannot stand, the number of words if one is missing, None if none is.
+
+    stands tells whether words are a whole text; ends are what can follow words that may stand.
+    """
+    for at in range(len(words)):
+        if not any(stands(words[:at + 1] + end) for end in ends):
+            return at
+    return None if stands(words) else len(words)

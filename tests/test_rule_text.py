@@ -3,7 +3,7 @@
 import re
 import unittest
 
-from helping import ANY, random_rule, rng_of, told
+from helping import ANY, random_rule, rng_of, told, wrong_word
 from lanebanks.errors import BadText
 from lanebanks.rules import Rule
 
@@ -27,14 +27,6 @@ def stands(words):
         banks *= modulus
     return (all(2 <= modulus <= 32 for modulus in moduli) and banks <= 32 and len(ahead) < 24
             and len(ahead) + len(turn) <= 24 and all(weight < banks for weight in ahead + turn))
-
-
-def wrong_word(words):
-    """The index of the first word that cannot stand, the number of words if one is missing, None if none is."""
-    for at in range(len(words)):
-        if not any(stands(words[:at + 1] + end) for end in ENDS):
-            return at
-    return None if stands(words) else len(words)
 
 
 class RuleTextTest(unittest.TestCase):
@@ -84,7 +76,7 @@ class RuleTextTest(unittest.TestCase):
         self.assertEqual(told(Rule.read, half + " 1"), (BadText, {"line": 0, "word": 28}))
 
     def check(self, words):
-        text, wanted = " ".join(words), wrong_word(words)
+        text, wanted = " ".join(words), wrong_word(words, stands, ENDS)
         if wanted is None:
             at = words.index("round")
             split = words.index("ahead")

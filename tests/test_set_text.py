@@ -2,7 +2,7 @@
 
 import unittest
 
-from helping import ANY, random_set, random_table, rng_of, told
+from helping import ANY, random_set, random_table, rng_of, told, wrong_word
 from lanebanks.errors import BadSet, BadText
 from lanebanks.sets import NumberSet
 
@@ -21,14 +21,6 @@ def stands(words):
         if at % 4 == 2 and word not in ["+", "-"] or at % 4 == 3 and word != "/":
             return False
     return True
-
-
-def wrong_word(words):
-    """The index of the first word that cannot stand, the number of words if one is missing, None if none is."""
-    for at in range(len(words)):
-        if not any(stands(words[:at + 1] + end) for end in ENDS):
-            return at
-    return None if stands(words) else len(words)
 
 
 class SetTextTest(unittest.TestCase):
@@ -59,13 +51,14 @@ class SetTextTest(unittest.TestCase):
 
     def test_empty_words(self):
         for text, word in (("", 0), (" ", 0), ("0", 1), ("0 ", 1), ("0 0", 2), ("0 0 ", 2), ("0 0 + ", 3),
-                           (" 0 0 +", 0), ("0  0 +", 1), ("0 0 + /", 4), ("0 0 + / ", 4), ("0 0 +\n", 2), ("0 0 + /  0", 4),
-                           ("0 0 + 0 0 +", 3), ("0\n0 +", 0), ("0 0 + / 0 0", 6), ("0 0 + / 0", 5), ("+", 0)):
+                           (" 0 0 +", 0), ("0  0 +", 1), ("0 0 + /", 4), ("0 0 + / ", 4), ("0 0 +\n", 2),
+                           ("0 0 + /  0", 4), ("0 0 + 0 0 +", 3), ("0\n0 +", 0), ("0 0 + / 0 0", 6),
+                           ("0 0 + / 0", 5), ("+", 0)):
             self.assertEqual(told(NumberSet.read, text), (BadText, {"line": 0, "word": word}), text)
 
     def check(self, words):
         text = " ".join(words)
-        wanted = wrong_word(words)
+        wanted = wrong_word(words, stands, ENDS)
         if wanted is not None:
             self.assertEqual(told(NumberSet.read, text), (BadText, {"line": 0, "word": wanted}), text)
             return

@@ -27,7 +27,7 @@ def leading_to(sources, ends):
 
 def further(nexts, ways):
     """How many ways lead to each state behind one digit more."""
-    behind = [0] * len(nexts)
+    behind = [0 for _ in nexts]
     for many, ends in zip(ways, nexts):
         if many:
             behind[ends[0]] = behind[ends[0]] + many

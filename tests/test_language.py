@@ -162,9 +162,7 @@ class NamesTest(unittest.TestCase):
 
 
 def is_made(value):
-    """Whether an expression creates a list, a dict or a set."""
-    if isinstance(value, ast.BinOp):
-        return is_made(value.left) and (is_made(value.right) or isinstance(value.op, ast.Mult))
+    """Whether an expression surely creates a list, a dict or a set: what a sign gives may be another thing."""
     if isinstance(value, ast.Call):
         return isinstance(value.func, ast.Name) and value.func.id in ("list", "dict", "set", "sorted")
     return isinstance(value, (ast.List, ast.Dict, ast.ListComp, ast.DictComp, ast.Set))

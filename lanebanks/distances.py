@@ -2,9 +2,10 @@
 
 from lanebanks.checks import is_within
 from lanebanks.errors import BadNumber, BadRule
-from lanebanks.growing import grown_set
+from lanebanks.growing import grown_set, limited_set
+from lanebanks.lane_sets import meeting_table
 from lanebanks.listing import least_further
-from lanebanks.pair_rows import leads_of, meeting_codes, ones_to_meet
+from lanebanks.pair_rows import leads_of, ones_to_meet
 from lanebanks.rules import Rule
 from lanebanks.sets import NumberSet
 from lanebanks.verdicts import Verdict
@@ -61,20 +62,8 @@ def distances(rule, limit=2000):
     """The set of all distances."""
     check_rule(rule)
     check_limit(limit)
-    leads = leads_of(rule)
-    meeting = meeting_codes(rule, leads)
-
-    # A row holds the class of the next place, all codes that come up, and whether d has a digit 1 so far.
-    def lead(row, digit):
-        number, held, has_one = row
-        ends = sorted(set([int(end) for code in held for end in leads[number][digit][code]]))
-        return rule.next_class(number), tuple(ends), has_one or digit == 1
-
-    def is_in(row):
-        number, held, has_one = row
-        return has_one and any([code in meeting[number] for code in held])
-
-    return grown_set((0, (0,), False), lead, is_in, limit)
+    nexts, marks = meeting_table(rule, 0, 1, NumberSet.every())
+    return limited_set(nexts, marks, limit)
 
 
 def is_distance(rule, d):
@@ -86,7 +75,11 @@ def distance(rule, d):
     """The least start at which a and a + d are in one bank, as Meets; Never with what comes up if there is none."""
     check_rule(rule)
     check_distance(d)
-    leads = leads_of(rule)
+    return paper_of(rule, leads_of(rule), d)
+
+
+def paper_of(rule, leads, d):
+    """What distance tells, for any d from 1 on and the leads of the rule."""
     levels = start_levels(rule, leads, d)
     number = rule.class_of(len(levels) - 1)
     starts = []

@@ -197,3 +197,10 @@ def ascending(nexts, marks, begin):
         else:
             branches.append((place - 1, leading_to(ones, states), number + (1 << place - 1)))
             branches.append((place - 1, leading_to(zeros, states), number))
+
+
+def least_from(nexts, marks, begin):
+    """The least member that is not below a number, None if there is none."""
+    for member in ascending(nexts, marks, begin):
+        return member
+    return None

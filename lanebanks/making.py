@@ -3,7 +3,7 @@
 from lanebanks.tables import grown_table
 
 
-def table_of_numbers(numbers, most):
+def table_of_numbers(numbers, most=None):
     """The table and the marks for these numbers; refused if the normal form has more than most states.
 
     A state is the ascending tuple of what may come, so no two states are alike.

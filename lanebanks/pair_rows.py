@@ -40,12 +40,3 @@ def ones_to_meet(rule, leads, number, code):
             return ones
         number, code = rule.next_class(number), one
     return None
-
-
-def meeting_codes(rule, leads):
-    """For each class the codes from which, d being read, some digits of a start lead to the code 0."""
-    found = []
-    for number in range(rule.classes):
-        codes = range(2 * rule.banks)
-        found.append([code for code in codes if ones_to_meet(rule, leads, number, code) is not None])
-    return found

@@ -2,11 +2,13 @@
 
 from lanebanks.checks import is_number, is_within
 from lanebanks.errors import BadNumber, BadSet, BadText, NoMember
-from lanebanks.listing import ascending, count_below, end_of, least_words, marked_states, member_at, state_behind
+from lanebanks.listing import ascending, count_below, end_of, least_from, least_words, marked_states, member_at
+from lanebanks.listing import state_behind
 from lanebanks.making import table_between, table_of_multiples, table_of_numbers
 from lanebanks.normal import normal_form
 from lanebanks.set_text import read_states, state_text
-from lanebanks.tables import grown_table, paired
+from lanebanks.solving import solved_table
+from lanebanks.tables import paired
 
 GREATEST = 10 ** 40
 
@@ -148,18 +150,7 @@ class NumberSet:
             raise BadNumber(times)
         if not is_within(plus, -64, 64):
             raise BadNumber(plus)
-
-        def lead(row, digit):
-            state, carry = row
-            total = times * digit + carry
-            return self.nexts[state][total % 2], total // 2
-
-        def is_in(row):
-            state, carry = row
-            # A carry below 0 stays so: the sum is below 0.
-            return carry >= 0 and self.marks[state_behind(self.nexts, state, carry)]
-
-        nexts, marks = grown_table((0, plus), lead, is_in, NumberSet.MOST)
+        nexts, marks = solved_table(self.nexts, self.marks, times, plus, NumberSet.MOST)
         return NumberSet(nexts, marks)
 
     @property
@@ -188,9 +179,7 @@ class NumberSet:
         """The least member that is not below number, None if there is none."""
         if not is_within(number, 0, GREATEST):
             raise BadNumber(number)
-        for member in ascending(self.nexts, self.marks, number):
-            return member
-        return None
+        return least_from(self.nexts, self.marks, number)
 
     def count(self, below):
         """How many members are below a number."""

@@ -11,14 +11,32 @@ def sources_of(nexts, digit):
     return sources
 
 
+def live_states(nexts, marks):
+    """For each state whether some digits lead from it to one that is in: no others are dead."""
+    sources = (sources_of(nexts, 0), sources_of(nexts, 1))
+    live = list(marks)
+    waiting = [state for state, mark in enumerate(marks) if mark]
+    while waiting:
+        end = waiting.pop()
+        for leading in sources:
+            for state in leading[end]:
+                if not live[state]:
+                    live[state] = True
+                    waiting.append(state)
+    return live
+
+
 def table_of(leads):
     """The table for a dict from rows to their two next rows; the states are numbered in its order."""
     numbers = {row: number for number, row in enumerate(leads)}
     return [(numbers[zero], numbers[one]) for zero, one in leads.values()]
 
 
-def paired(one, other, most):
-    """The list of the pairs of states that two tables reach by the same digits, and their table."""
+def paired(one, other, most=None):
+    """The list of the pairs of states that two tables reach by the same digits, and their table.
+
+    Pairs beyond most are refused.
+    """
     leads = {}
     waiting = [(0, 0)]
     while waiting:
@@ -29,7 +47,7 @@ def paired(one, other, most):
             leads[(left, right)] = (zero, high)
             waiting.append(zero)
             waiting.append(high)
-        if len(leads) > most:
+        if most is not None and len(leads) > most:
             raise TooMany("states", most)
     return list(leads), table_of(leads)
 

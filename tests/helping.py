@@ -2,16 +2,21 @@
 
 import random
 
+from lanebanks.compared import Freer, Told
 from lanebanks.errors import BadRule, BankError
 from lanebanks.distances import Meets, Never
 from lanebanks.rules import Rule
 from lanebanks.sets import NumberSet
+from lanebanks.tiles import Clear, Jam, Pattern
+from lanebanks.units import Clash, Free
+from lanebanks.worst import Shared
 
 DEEP = [[[[[[[[1]]]]]]]]
 ANY = [
     None, True, False, 0, 1, 2, -1, 33, 10 ** 40, 10 ** 40 + 1, -(10 ** 40), "", "a", "0", "12", "two words", "line\n",
     "x" * 4000, (), (1,), (1, 2), [], [1, 2], [None, [True, "z"]], {}, {"a": 1}, {1: [2, {3: ()}]}, DEEP,
-    NumberSet.every(), Rule.modulo(4), Meets(1), Never((), ()), BadRule("x"),
+    NumberSet.every(), Rule.modulo(4), Meets(1), Never((), ()), BadRule("x"), Pattern(0, 3), Clear({}), Jam(0, 0, 1),
+    Free(()), Clash(1, 2, 0, 1), Shared(1, 0, (), ()), Told({0: 0}), Freer(1, ()),
 ]
 
 
@@ -124,3 +129,46 @@ def wrong_word(words, stands, ends):
         if not any(stands(words[:at + 1] + end) for end in ends):
             return at
     return None if stands(words) else len(words)
+
+
+def plain_row(rule, pair, places, start, stride):
+    """What matters behind some places of a start and a stride: the carries of two lanes, and the bank between."""
+    size = 2 ** places
+    ends = [start % size + lane * (stride % size) for lane in pair]
+    one, other = [plain_parts(rule.moduli, plain_bank(rule.moduli, rule.ahead, rule.turn, end % size)) for end in ends]
+    bank, many = 0, 1
+    for a, b, modulus in zip(one, other, rule.moduli):
+        bank += (b - a) % modulus * many
+        many *= modulus
+    return ends[0] // size, ends[1] // size, bank
+
+
+def banks_seen(rule, start, offsets):
+    """The banks of a start plus offsets, as the definition tells them."""
+    return [plain_bank(rule.moduli, rule.ahead, rule.turn, start + offset) for offset in offsets]
+
+
+def cut_rule(rng, moduli=None, ahead=4):
+    """A random rule whose weights are 0 from a place on, and the number of starts that make a round of it."""
+    rule = random_rule(rng, moduli, ahead, 1)
+    return rule.cut(ahead), 2 ** ahead
+
+
+def changed(value, rng, fresh):
+    """A nested tuple with one part at any depth left out, put in, doubled, exchanged or turned about."""
+    if not isinstance(value, tuple) or (value and rng.random() < 0.1):
+        return rng.choice(fresh)
+    if value and isinstance(value[0], tuple) and rng.random() < 0.7:
+        at = rng.randrange(len(value))
+        return value[:at] + (changed(value[at], rng, fresh),) + value[at + 1:]
+    at = rng.randrange(len(value) + 1)
+    kind = rng.randrange(5)
+    if kind == 0:
+        return value[:at] + value[at + 1:]
+    if kind == 1:
+        return value[:at] + (rng.choice(fresh),) + value[at:]
+    if kind == 2:
+        return value[:at] + value[at:at + 1] + value[at:]
+    if kind == 3:
+        return value[:at] + (rng.choice(fresh),) + value[at + 1:]
+    return value[::-1]

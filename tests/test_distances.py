@@ -44,35 +44,6 @@ def plain_back(rule, d, beyond):
     return tuple(sorted(rows))
 
 
-class PapersTest(unittest.TestCase):
-    def test_attributes(self):
-        for value in ANY:
-            self.assertIs(Meets(value).start, value)
-            self.assertIs(Meets(start=value).start, value)
-            self.assertIs(Never(value, 1).levels, value)
-            self.assertIs(Never(1, value).back, value)
-            self.assertIs(Never(back=1, levels=value).levels, value)
-            self.assertIs(bool(Meets(value)), True)
-            self.assertIs(bool(Never(value, value)), False)
-            self.assertEqual(list(vars(Meets(value))), ["start"])
-            self.assertEqual(list(vars(Never(value, value))), ["levels", "back"])
-
-    def test_equality(self):
-        for one in ANY:
-            for other in ANY:
-                self.assertIs(Meets(one) == Meets(other), bool(one == other))
-                self.assertIs(Never(one, 5) == Never(other, 5), bool(one == other))
-                self.assertIs(Never(5, one) == Never(5, other), bool(one == other))
-                self.assertIs(Never(5, one) != Never(5, other), bool(one != other))
-            self.assertIs(Meets(one) == one, False)
-            self.assertIs(Never(one, one) == Meets(one), False)
-            self.assertIs(Meets(one) == Never(one, one), False)
-            self.assertIs(Never(one, one) == (one, one), False)
-            self.assertIs(Meets(one) != Meets(one), False)
-        self.assertIs(Meets(1) == Meets(True), True)
-        self.assertIs(Meets([1]) == Meets((1,)), False)
-
-
 class SingleTest(unittest.TestCase):
     def test_all_near_distances_and_least_starts(self):
         rng = rng_of(60)

@@ -1,4 +1,7 @@
-"""The examples of the document, word for word."""
+"""The examples of the document, word for word.
+
+Those of look_compared are left out: it is not written yet.
+"""
 
 import unittest
 
@@ -41,6 +44,7 @@ raises TooMany('places', 24)
 
 DISTANCES = r"""
 >>> from lanebanks.distances import Meets, Never, distance, distances, is_distance, meeting_starts
+>>> from lanebanks.look_distances import shows_distance
 >>> from lanebanks.rules import Rule
 >>> from lanebanks.sets import NumberSet
 >>> four, padded = Rule.modulo(4), Rule((4,), (1, 2, 1, 2), (0,))
@@ -51,8 +55,60 @@ DISTANCES = r"""
 [False, False, [3, 6, 7, 9, 10, 13, 16], True]
 >>> distance(four, 2) == Never((((0, 0),), ((0, 0),), ((0, 2), (1, 2))), ((2, 0, 2), (2, 1, 2)))
 True
+>>> [shows_distance(four, 2, distance(four, 2)), shows_distance(four, 4, Meets(5)), shows_distance(four, 2, Meets(0))]
+[True, True, False]
 >>> distance(four, 0)
 raises BadNumber(0)
+"""
+
+UNITS = r"""
+>>> from lanebanks.look_units import shows_unit
+>>> from lanebanks.units import Clash, Free, every_free, first_clash, free_strides, is_free, meeting, unit
+>>> [free_strides(four, 4) == NumberSet.multiples(2, 1) | NumberSet.of(0), [s for s in range(20) if s in free_strides(padded, 4)], [s for s in range(8) if s in free_strides(padded, 3)]]
+[True, [0, 4, 12], [0, 1, 2, 4]]
+>>> aligned = NumberSet.multiples(4)
+>>> [is_free(padded, 4, 1), is_free(padded, 4, 1, aligned), is_free(padded, 3, 3, aligned), first_clash(padded, 3, 3, 0), first_clash(padded, 4, 1, 1)]
+[False, True, False, (1, 2), (0, 3)]
+>>> [bool(every_free(padded, 4, NumberSet.multiples(16, 4))), unit(four, 2, 1) == Free((((0, 0, 0, 0, 0, 0, 0), (1, 0, 0, 1, 0, 2, 1), (1, 0, 1, 3, 0, 2, 1), (2, 0, 0, 1, 0, 2, 1), (2, 0, 1, 1, 0, 2, 1)),))]
+[True, True]
+>>> [shows_unit(four, 3, NumberSet.of(2), Clash(2, 5, 0, 2)), shows_unit(padded, 4, NumberSet.of(1), every_free(padded, 4, NumberSet.of(1), aligned), aligned), meeting(padded, 1, 2, aligned) == meeting(padded, 0, 1)]
+[True, True, False]
+>>> unit(four, 17, 1)
+raises BadUnit('lanes')
+"""
+
+TILES = r"""
+>>> from lanebanks.look_tiles import shows_clear
+>>> from lanebanks.tiles import Jam, Pattern, clear, free_pitches, next_pitch
+>>> [Pattern.strided(4, 5).gaps(), str(Pattern.tiled(2, 2, 4)), 4 in Pattern(9, 4), str(Pattern(0, 3) | Pattern(1) + 2), Pattern(3) <= Pattern(0, 3)]
+[(5, 10, 15), '0 1 4 5', True, '0 3', True]
+>>> [bool(clear(pad, Pattern.strided(4, 4))), bool(clear(pad, Pattern.strided(4, 1))), shows_clear(pad, Pattern.strided(4, 1), Jam(1, 0, 3)), sorted(clear(pad, Pattern(0, 4, 5)).papers)]
+[True, False, True, [1, 4, 5]]
+>>> [[pitch in free_pitches(four, 2, 2) for pitch in range(8)], next_pitch(four, 2, 2, 10 ** 20) - 10 ** 20, list(free_pitches(pad, 2, 2).members()), next_pitch(pad, 2, 2, 5)]
+[[True, True, True, False, False, False, True, False], 2, [0, 1], None]
+>>> free_pitches(four, 5, 4)
+raises BadTile('height')
+"""
+
+WORST = r"""
+>>> from lanebanks.look_worst import shows_shared
+>>> from lanebanks.worst import Shared, shared, worst
+>>> [[worst(four, 4, stride).number for stride in range(5)], worst(pad, 4, 1).number, worst(pad, 4, 16).number, shared(fold, Pattern(0, 5, 10, 15)).number]
+[[1, 1, 2, 1, 4], 2, 4, 4]
+>>> [len(shared(Rule.modulo(2), Pattern(0, 1)).stands), shows_shared(Rule.modulo(2), Pattern(0, 1), Shared(1, 5, ((((0, 0), (0, 0)),),), ((((0, 0), (0, 1)), ((0, 1), (0, 1))),)))]
+[1, True]
+"""
+
+COMPARED = r"""
+>>> from lanebanks.compared import Less, Parted, Same, Split, Told, first_unlike, freer, order, same_banks, tells
+>>> from lanebanks.rules import Rule
+>>> plain, pad, two = Rule((4,), (1, 2), (0,)), Rule((4,), (1, 2, 1, 2), (0,)), Rule((2,), (1,), (0,))
+>>> [tells(plain, two) == Told({0: 0, 1: 1, 2: 0, 3: 1}), tells(two, plain) == Split(0, 2), tells(plain, pad) == Split(0, 4), tells(pad, plain) == Split(1, 4)]
+[True, True, True, True]
+>>> [same_banks(plain, Rule((4,), (3, 2), (0,))) == Same({0: 0, 1: 3, 2: 2, 3: 1}), bool(same_banks(plain, Rule((2, 2), (1, 2), (0,)))), same_banks(pad, plain) == Parted(0, 4)]
+[True, True, True]
+>>> [freer(plain, pad, 4) == Less(4), freer(pad, plain, 4) == Less(1), first_unlike(plain, pad, 4), order(plain, pad, 4), order(plain, two, 2), bool(freer(plain, two, 2))]
+[True, True, 1, 'apart', 'better', True]
 """
 
 
@@ -70,8 +126,8 @@ def outcome(line, names):
 
 
 class DocumentTest(unittest.TestCase):
-    def check(self, text):
-        names, shown = {}, None
+    def check(self, text, names):
+        shown = None
         for line in text.strip().split("\n"):
             if line.startswith(">>> "):
                 self.assertIsNone(shown, line)
@@ -81,14 +137,11 @@ class DocumentTest(unittest.TestCase):
                 shown = None
         self.assertIsNone(shown)
 
-    def test_sets(self):
-        self.check(SETS)
-
-    def test_rules(self):
-        self.check(RULES)
-
-    def test_distances(self):
-        self.check(DISTANCES)
+    def test_examples(self):
+        # Examples use what earlier ones imported, and the names that were bound last.
+        names = {}
+        for text in (SETS, RULES, DISTANCES, UNITS, TILES, WORST, COMPARED):
+            self.check(text, names)
 
 
 if __name__ == "__main__":

@@ -17,7 +17,7 @@ setdefault split splitlines startswith strip update upper values zfill bit_lengt
 CHANGING = {"append", "clear", "extend", "insert", "pop", "remove", "reverse", "setdefault", "update", "add", "sort"}
 BARRED = set("""type typing typing_extensions enum Enum IntEnum StrEnum Flag IntFlag Generic Protocol ABC ABCMeta
 namedtuple NamedTuple TypedDict TYPE_CHECKING abstractmethod""".split())
-STATEMENTS = (ast.Assign, ast.AugAssign, ast.If, ast.While, ast.For, ast.Return, ast.Break, ast.Continue, ast.Pass,
+STATEMENTS = (ast.Assign, ast.AugAssign, ast.Try, ast.If, ast.While, ast.For, ast.Return, ast.Break, ast.Continue, ast.Pass,
               ast.Raise, ast.Assert, ast.Delete, ast.Expr, ast.FunctionDef, ast.ClassDef, ast.ImportFrom)
 NAMES = sorted(name for name in os.listdir(FOLDER) if name != "__pycache__")
 TEXTS = {name: pathlib.Path(FOLDER, name).read_text(encoding="utf-8") for name in NAMES}
@@ -152,13 +152,69 @@ class NamesTest(unittest.TestCase):
             for node in ast.walk(tree):
                 self.assertNotIsInstance(node, ast.GeneratorExp, name)
                 if isinstance(node, ast.Call) and isinstance(node.func, ast.Name) and node.func.id in made:
-                    self.assertEqual(name, "sets.py")
+                    self.assertIn(name, ("sets.py", "listing.py"))
 
     def test_kept_sums_are_by_whole_numbers(self):
         for name, tree in TREES.items():
             for node in ast.walk(tree):
                 if isinstance(node, ast.AugAssign):
                     self.assertTrue(isinstance(node.target, ast.Name) and isinstance(node.value, ast.Constant), name)
+
+
+def is_plain_number(value):
+    """Whether an expression plainly gives a number or a string."""
+    if isinstance(value, ast.Call):
+        return isinstance(value.func, ast.Name) and value.func.id in ("len", "int", "ord", "str", "repr")
+    return isinstance(value, ast.Constant)
+
+
+def are_plain_numbers(value):
+    """Whether an expression plainly gives several numbers or strings."""
+    if isinstance(value, ast.Call) and isinstance(value.func, ast.Name) and value.func.id == "set":
+        return are_plain_numbers(value.args[0])
+    return isinstance(value, ast.ListComp) and is_plain_number(value.elt)
+
+
+def called(name):
+    """The calls by a bare name in a file, with this name."""
+    for node in ast.walk(TREES[name]):
+        if isinstance(node, ast.Call) and isinstance(node.func, ast.Name):
+            yield node.func.id, node
+
+
+class PlainTest(unittest.TestCase):
+    def test_ordered_values_are_plain(self):
+        # A class has an order, so what is ordered is plainly numbers.
+        for name in NAMES:
+            for word, node in called(name):
+                if word in ("sorted", "min", "max"):
+                    one = len(node.args) == 1
+                    self.assertTrue(are_plain_numbers(node.args[0]) if one else any(map(is_plain_number, node.args)), name)
+
+    def test_ranges_are_gone_over_at_once(self):
+        for name, tree in TREES.items():
+            parents = {child: node for node in ast.walk(tree) for child in ast.iter_child_nodes(node)}
+            for word, node in called(name):
+                if word in ("range", "zip", "enumerate"):
+                    above = parents[node]
+                    if isinstance(above, ast.Call):
+                        self.assertIn(above.func.id, ("list", "tuple", "enumerate", "zip"), name)
+                    else:
+                        self.assertIsInstance(above, (ast.For, ast.comprehension, ast.Assign), name)
+
+    def test_texts_are_plain(self):
+        for name, function in FUNCTIONS:
+            if function.name in ("__str__", "__repr__"):
+                value = function.body[-1].value
+                joined = isinstance(value, ast.Call) and isinstance(value.func, ast.Attribute) and value.func.attr == "join"
+                self.assertTrue(joined or isinstance(value, (ast.JoinedStr, ast.Constant)), name)
+
+    def test_properties_and_methods_are_no_attributes(self):
+        methods = {part.name: part for node in CLASSES for part in node.body if isinstance(part, ast.FunctionDef)}
+        for name, tree in TREES.items():
+            for node in ast.walk(tree):
+                if isinstance(node, ast.Attribute) and isinstance(node.ctx, ast.Store):
+                    self.assertNotIn(node.attr, methods, name)
 
 
 def is_made(value):

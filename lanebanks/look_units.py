@@ -1,0 +1,54 @@
+"""A looker at the papers of units: it walks them, and searches nothing."""
+
+from lanebanks.checks import is_within
+from lanebanks.lane_rows import pairs_of
+from lanebanks.unit_rows import MOST_ROWS, UnitRows
+from lanebanks.units import Clash, Free, check_unit, starts_that_count
+
+
+def shows_unit(rule, lanes, strides, value, starts=None):
+    """Whether any value is a right paper of whether all strides of a set are free."""
+    check_unit(rule, lanes, strides, starts)
+    counted = starts_that_count(starts)
+    if isinstance(value, Clash):
+        return value.stride in strides and value.start in counted and shows_clash(rule, lanes, value)
+    if not isinstance(value, Free):
+        return False
+    pairs = pairs_of(lanes, starts)
+    if not are_tables(value.tables, len(pairs)):
+        return False
+    for (one, other), table in zip(pairs, value.tables):
+        if not shows_table(UnitRows(rule, one, other, counted, strides), table):
+            return False
+    return True
+
+
+def shows_clash(rule, lanes, paper):
+    """Whether the two lanes of a Clash are lanes that meet at its start and stride, which are numbers."""
+    if not is_within(paper.one, 0, lanes - 2) or not is_within(paper.other, paper.one + 1, lanes - 1):
+        return False
+    if paper.stride == 0:
+        return False
+    return rule(paper.start + paper.one * paper.stride) == rule(paper.start + paper.other * paper.stride)
+
+
+def are_tables(value, many):
+    """Whether any value is a tuple of so many tuples, with not too many rows in all."""
+    if not isinstance(value, tuple) or len(value) != many or not all([isinstance(table, tuple) for table in value]):
+        return False
+    return sum([len(table) for table in value]) <= MOST_ROWS
+
+
+def shows_table(rows, table):
+    """Whether a table is closed and tells no meeting."""
+    if not all([rows.is_row(row) for row in table]):
+        return False
+    held = {rows.code_of(row): True for row in table}
+    if not all([code in held for code in rows.firsts()]):
+        return False
+    return all([is_right(rows, held, code) for code in held])
+
+
+def is_right(rows, held, code):
+    """Whether a row is no meeting, and all rows to which it leads are held."""
+    return not rows.is_meeting(code) and all([end in held for end in rows.ends_of(code)])

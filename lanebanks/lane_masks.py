@@ -7,6 +7,7 @@ lanes, and in a block a digit for each bank by which the bank of the other lane 
 
 from lanebanks.banks import parts_of
 from lanebanks.distances import paper_of
+from lanebanks.lane_rows import classes_before
 from lanebanks.pair_rows import leads_of
 from lanebanks.tables import live_states, sources_of
 
@@ -76,6 +77,8 @@ def meets_at(rule, lanes, stride, starts):
         return True
     leads = leads_of(rule)
     gaps = [gap for gap in range(1, lanes) if paper_of(rule, leads, gap * stride)]
+    if not gaps:
+        return False
     pairs = [(one, one + gap) for gap in gaps for one in range(lanes - gap)]
     blocks = Blocks(rule, pairs)
     places = stride.bit_length() + ZEROS
@@ -120,11 +123,12 @@ def carried_endings(rule, blocks, nexts, live):
     """
     weights = rule.ahead + rule.turn
     endings = [[1 << rule.less(0, weight) if live[ends[0]] else 0 for ends in nexts] for weight in weights]
+    before = classes_before(rule)
     sources = sources_of(nexts, 1)
     waiting = [(number, state) for number in range(rule.classes) for state in range(len(nexts)) if live[state]]
     while waiting:
         behind, state = waiting.pop()
-        for number in [number for number in range(rule.classes) if rule.next_class(number) == behind]:
+        for number in before[behind]:
             back = moved(endings[behind][state], blocks.moves_up[number])
             for source in sources[state]:
                 if back | endings[number][source] != endings[number][source]:

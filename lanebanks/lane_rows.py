@@ -15,6 +15,14 @@ def shifts_both_ways(rule, weight):
     return list(range(rule.banks)), shifts_by(rule.moduli, weight), shifts_by(rule.moduli, less)
 
 
+def classes_before(rule):
+    """For each class of places the list of those that it follows."""
+    before = [[] for _ in range(rule.classes)]
+    for number in range(rule.classes):
+        before[rule.next_class(number)].append(number)
+    return before
+
+
 class LanePair:
     """Two lanes of a unit by a rule."""
 

@@ -7,7 +7,7 @@ which endings have one of them. Either way can be the short one, so both get mor
 """
 
 from lanebanks.errors import TooMany
-from lanebanks.lane_rows import FIRST_ROW, LanePair, pairs_of
+from lanebanks.lane_rows import FIRST_ROW, LanePair, classes_before, pairs_of
 from lanebanks.normal import normal_form
 from lanebanks.sets import NumberSet
 from lanebanks.solving import joined_table
@@ -21,8 +21,9 @@ ALL_BUT_ZERO = (((0, 1), (1, 1)), (False, True))
 class StrideRows:
     """The rows of two lanes, each with a state of the starts that is not dead, that come up at any strides.
 
-    For each class: following has the class of the next place; rows has the rows; leads has, for either
-    digit of a stride, for each of these rows the pair of the numbers of the rows that it leads to.
+    For each class: following has the class that follows it, before those that it follows; rows has the rows;
+    leads has, for either digit of a stride, for each of these rows the pair of the numbers of the rows that it
+    leads to.
     """
 
     def __init__(self, rule, one, other, nexts, marks):
@@ -30,6 +31,7 @@ class StrideRows:
         live = live_states(nexts, marks)
         first = (FIRST_ROW, 0)
         self.following = pair.following
+        self.before = classes_before(rule)
         self.leads = [([], []) for _ in self.following]
         self.rows = [[] for _ in self.following]
         self.rows[0].append(first)
@@ -155,7 +157,7 @@ def all_endings(rows, room):
     at = 0
     while at < len(order) <= room:
         behind, index = order[at]
-        for number in [number for number, follows in enumerate(rows.following) if follows == behind]:
+        for number in rows.before[behind]:
             for digit in (0, 1):
                 ending = led_back(endings[behind][index], rows.leads[number][digit])
                 if ending not in numbers[number]:

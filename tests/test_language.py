@@ -109,6 +109,7 @@ class NamesTest(unittest.TestCase):
 
     def test_builtins(self):
         known = set(dir(__builtins__)) if not isinstance(__builtins__, dict) else set(__builtins__)
+        barred = known | {"members", "ascending"} - generators()
         for name, tree in TREES.items():
             for node in ast.walk(tree):
                 if isinstance(node, ast.Name):
@@ -117,7 +118,7 @@ class NamesTest(unittest.TestCase):
                     elif node.id in known:
                         self.assertIn(node.id, BUILTINS, name)
                 if isinstance(node, (ast.FunctionDef, ast.ClassDef)):
-                    self.assertNotIn(node.name, known | {"members", "ascending"} - generators(), name)
+                    self.assertNotIn(node.name, barred, name)
                 if isinstance(node, ast.arg):
                     self.assertNotIn(node.arg, known, name)
                     self.assertIsNone(node.annotation)

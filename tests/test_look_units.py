@@ -125,6 +125,8 @@ class RightTest(unittest.TestCase):
     def test_clashes_of_any_size(self):
         rule, start, stride = Rule((2,), (), (0,)), 2 ** 30000 - 1, 3 ** 9000
         self.assertIs(shows_unit(rule, 2, NumberSet.every(), Clash(stride, start, 0, 1)), True)
+        self.assertIs(shows_unit(rule, 2, NumberSet.none(), Clash(stride, start, 0, 1)), False)
+        self.assertIs(shows_unit(rule, 2, NumberSet.every(), Clash(stride, start, 0, 1), NumberSet.none()), False)
         rule = Rule.modulo(3)
         self.assertIs(shows_unit(rule, 2, NumberSet.every(), Clash(stride, start, 0, 1)), True)
         self.assertIs(shows_unit(rule, 3, NumberSet.every(), Clash(stride + 1, start, 0, 2)), False)

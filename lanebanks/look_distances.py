@@ -1,7 +1,8 @@
 """A looker at the papers of distances: it walks them, and searches nothing."""
 
-from lanebanks.checks import is_number, is_within
+from lanebanks.checks import is_number
 from lanebanks.distances import Meets, Never, check_distance, check_rule
+from lanebanks.kinds import are_tuples, is_row_below
 from lanebanks.pair_rows import leads_of
 
 MOST_ROWS = 20000
@@ -23,15 +24,17 @@ def shows_paper(rule, leads, d, value):
 
 def shows_never(rule, leads, d, paper):
     """Whether a Never has all rows that come up, in whatever order, and none of them is a meeting."""
-    if not are_levels(paper.levels, d.bit_length() + 1) or not isinstance(paper.back, tuple):
+    if not are_tuples(paper.levels, d.bit_length() + 1) or not isinstance(paper.back, tuple):
         return False
     if sum([len(level) for level in paper.levels]) + len(paper.back) > MOST_ROWS:
         return False
-    if not all([is_pair(rule, pair) for level in paper.levels for pair in level]):
+    sizes = (2, rule.banks)
+    if not all([is_row_below(pair, sizes) for level in paper.levels for pair in level]):
         return False
-    if not all([is_triple(rule, triple) for triple in paper.back]):
+    sizes = (rule.classes, 2, rule.banks)
+    if not all([is_row_below(triple, sizes) for triple in paper.back]):
         return False
-    levels = [{carry * rule.banks + bank: True for carry, bank in level} for level in paper.levels]
+    levels = [codes_of(rule, level) for level in paper.levels]
     back = [{} for _ in range(rule.classes)]
     for number, carry, bank in paper.back:
         back[number][carry * rule.banks + bank] = True
@@ -47,21 +50,9 @@ def shows_never(rule, leads, d, paper):
     return all([leads_into(leads[at][0], back[at], back[rule.next_class(at)]) for at in range(rule.classes)])
 
 
-def are_levels(value, many):
-    """Whether any value is a tuple of so many tuples."""
-    return isinstance(value, tuple) and len(value) == many and all([isinstance(level, tuple) for level in value])
-
-
-def is_pair(rule, value):
-    """Whether any value is a tuple of a carry and a bank."""
-    return (isinstance(value, tuple) and len(value) == 2
-            and is_within(value[0], 0, 1) and is_within(value[1], 0, rule.banks - 1))
-
-
-def is_triple(rule, value):
-    """Whether any value is a tuple of a class, a carry and a bank."""
-    return (isinstance(value, tuple) and len(value) == 3
-            and is_within(value[0], 0, rule.classes - 1) and is_pair(rule, value[1:]))
+def codes_of(rule, level):
+    """The codes of the pairs of a level, as keys of a dict."""
+    return {carry * rule.banks + bank: True for carry, bank in level}
 
 
 def leads_into(table, codes, behind):

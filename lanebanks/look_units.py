@@ -1,6 +1,7 @@
 """A looker at the papers of units: it walks them, and searches nothing."""
 
 from lanebanks.checks import is_within
+from lanebanks.kinds import are_tuples, is_row_below
 from lanebanks.lane_rows import pairs_of
 from lanebanks.unit_rows import MOST_ROWS, UnitRows
 from lanebanks.units import Clash, Free, check_unit, starts_that_count
@@ -15,7 +16,7 @@ def shows_unit(rule, lanes, strides, value, starts=None):
     if not isinstance(value, Free):
         return False
     pairs = pairs_of(lanes, starts)
-    if not are_tables(value.tables, len(pairs)):
+    if not are_tuples(value.tables, len(pairs)) or sum([len(table) for table in value.tables]) > MOST_ROWS:
         return False
     for (one, other), table in zip(pairs, value.tables):
         if not shows_table(UnitRows(rule, one, other, counted, strides), table):
@@ -32,16 +33,9 @@ def shows_clash(rule, lanes, paper):
     return rule(paper.start + paper.one * paper.stride) == rule(paper.start + paper.other * paper.stride)
 
 
-def are_tables(value, many):
-    """Whether any value is a tuple of so many tuples, with not too many rows in all."""
-    if not isinstance(value, tuple) or len(value) != many or not all([isinstance(table, tuple) for table in value]):
-        return False
-    return sum([len(table) for table in value]) <= MOST_ROWS
-
-
 def shows_table(rows, table):
     """Whether a table is closed and tells no meeting."""
-    if not all([rows.is_row(row) for row in table]):
+    if not all([is_row_below(row, rows.sizes) for row in table]):
         return False
     held = {rows.code_of(row): True for row in table}
     if not all([code in held for code in rows.firsts()]):

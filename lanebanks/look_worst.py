@@ -1,7 +1,8 @@
 """A looker at the papers of how many addresses share a bank: it walks them, and searches nothing."""
 
-from lanebanks.checks import is_integer, is_number, is_within
+from lanebanks.checks import is_integer, is_number
 from lanebanks.distances import check_rule
+from lanebanks.kinds import are_tuples, is_row_below
 from lanebanks.stands import Halls, crowd_of
 from lanebanks.tiles import check_pattern
 from lanebanks.worst import Shared
@@ -16,7 +17,7 @@ def shows_shared(rule, pattern, value):
     if crowd_of([rule(value.start + offset) for offset in pattern.offsets]) != value.number:
         return False
     halls = Halls(rule, pattern)
-    if not are_levels(value.stands, halls.singles) or not are_levels(value.behind, halls.many - halls.singles):
+    if not are_tuples(value.stands, halls.singles) or not are_tuples(value.behind, halls.many - halls.singles):
         return False
     levels = value.stands + value.behind
     if not all([is_stand(halls, stand) for level in levels for stand in level]):
@@ -29,21 +30,12 @@ def shows_shared(rule, pattern, value):
     return all([1 in carries or crowd_of(banks) <= value.number for level in value.behind for carries, banks in level])
 
 
-def are_levels(value, many):
-    """Whether any value is a tuple of so many tuples."""
-    return isinstance(value, tuple) and len(value) == many and all([isinstance(level, tuple) for level in value])
-
-
 def is_stand(halls, value):
     """Whether any value is a tuple of a tuple of carries and one of banks, with an entry for each offset."""
-    if not isinstance(value, tuple) or len(value) != 2:
+    if not are_tuples(value, 2):
         return False
-    return is_row(value[0], len(halls.offsets), 1) and is_row(value[1], len(halls.offsets), halls.rule.banks - 1)
-
-
-def is_row(value, many, most):
-    """Whether any value is a tuple of so many integers from 0 to most."""
-    return isinstance(value, tuple) and len(value) == many and all([is_within(part, 0, most) for part in value])
+    many = len(halls.offsets)
+    return is_row_below(value[0], (2,) * many) and is_row_below(value[1], (halls.rule.banks,) * many)
 
 
 def goes_on(halls, held, hall, stand):

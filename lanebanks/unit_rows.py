@@ -4,7 +4,6 @@ A row is (class, carry, other carry, bank, state of starts, state of strides, se
 integer; codes ascend as rows do. A code is made of a core, for the first four parts, and a rest.
 """
 
-from lanebanks.checks import is_within
 from lanebanks.errors import TooMany
 from lanebanks.lane_rows import LanePair
 from lanebanks.tables import live_states
@@ -42,6 +41,7 @@ class UnitRows:
         self.live_strides = live_states(strides.nexts, strides.marks)
         self.core_sizes = (rule.classes, one + 1, other + 1, rule.banks)
         self.rest_sizes = (starts.states, strides.states, 2)
+        self.sizes = self.core_sizes + self.rest_sizes
         self.rests = 2 * starts.states * strides.states
         self.meets = (one + 1) * (other + 1) * rule.banks
         self.core_ends = {}
@@ -49,18 +49,11 @@ class UnitRows:
 
     def code_of(self, row):
         """The code of a row."""
-        return code_by(self.core_sizes + self.rest_sizes, row)
+        return code_by(self.sizes, row)
 
     def row_of(self, code):
         """The row with a code."""
-        return parts_by(self.core_sizes + self.rest_sizes, code)
-
-    def is_row(self, value):
-        """Whether any value is a row, each part within its bounds."""
-        sizes = self.core_sizes + self.rest_sizes
-        if not isinstance(value, tuple) or len(value) != len(sizes):
-            return False
-        return all([is_within(part, 0, size - 1) for part, size in zip(value, sizes)])
+        return parts_by(self.sizes, code)
 
     def firsts(self):
         """The list of the code of the first row, without it if it has a dead state."""

@@ -53,6 +53,15 @@ def bank_sum(moduli, banks, times):
     return bank_with(moduli, sums)
 
 
+def ones_of(address, ahead, turn):
+    """How many digits 1 an address has at each of so many places ahead, then at those of each class of a round."""
+    digits = f"{address:b}"[::-1]
+    many = [digits[place:place + 1].count("1") for place in range(ahead)]
+    for place in range(turn):
+        many.append(digits[ahead + place::turn].count("1"))
+    return many
+
+
 def shifts_by(moduli, weight):
     """For each bank the sum of it and a weight."""
     shifts = [0]

@@ -35,7 +35,7 @@ def is_stand(halls, value):
     if not are_tuples(value, 2):
         return False
     many = len(halls.offsets)
-    return is_row_below(value[0], (2,) * many) and is_row_below(value[1], (halls.rule.banks,) * many)
+    return is_row_below(value[0], (2,) * many) and is_row_below(value[1], (halls.bank_rule.banks,) * many)
 
 
 def goes_on(halls, held, hall, stand):

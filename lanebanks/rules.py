@@ -3,13 +3,21 @@
 from math import lcm
 
 from lanebanks.banks import MOST_BANKS, are_banks, are_moduli, bank_sum, bank_with, banks_by
-from lanebanks.banks import doubled_weights, parts_of, shortest_weights
+from lanebanks.banks import doubled_weights, ones_of, parts_of, shortest_weights
 from lanebanks.checks import is_number, is_within
 from lanebanks.errors import BadNumber, BadRule, BadText, TooMany
 from lanebanks.rule_text import read_weights
 from lanebanks.wording import spaced
 
 MOST_PLACES = 24
+
+
+def check_padding(banks, every):
+    """Raise for the first of these values by which no rule is padded."""
+    if not is_within(banks, 2, MOST_BANKS):
+        raise BadRule("banks")
+    if not is_within(every, 1, 12):
+        raise BadRule("every")
 
 
 class Rule:
@@ -53,10 +61,7 @@ class Rule:
     @classmethod
     def padded(cls, banks, every, pad):
         """The rule by which the bank is address + pad * (address // 2 ** every) modulo banks."""
-        if not is_within(banks, 2, MOST_BANKS):
-            raise BadRule("banks")
-        if not is_within(every, 1, 12):
-            raise BadRule("every")
+        check_padding(banks, every)
         if not is_within(pad, 0, banks - 1):
             raise BadRule("pad")
         first = [(1 << place) % banks for place in range(every)]
@@ -82,12 +87,7 @@ class Rule:
     def __call__(self, address):
         if not is_number(address):
             raise BadNumber(address)
-        digits = f"{address:b}"[::-1]
-        ahead = len(self.ahead)
-        many = [digits[place:place + 1].count("1") for place in range(ahead)]
-        for place in range(len(self.turn)):
-            many.append(digits[ahead + place::len(self.turn)].count("1"))
-        return bank_sum(self.moduli, self.ahead + self.turn, many)
+        return bank_sum(self.moduli, self.ahead + self.turn, ones_of(address, len(self.ahead), len(self.turn)))
 
     @property
     def banks(self):

@@ -14,7 +14,7 @@ class Halls:
         ahead = len(rule.ahead)
         digits = pattern.offsets[-1].bit_length()
         self.offsets = pattern.offsets
-        self.rule = rule
+        self.bank_rule = rule
         self.singles = digits if digits > ahead else ahead
         self.many = self.singles + len(rule.turn)
         # The class of the first place behind all single ones need not be the first of the round.
@@ -30,8 +30,8 @@ class Halls:
 
     def class_at(self, hall):
         """The class of the places of a hall."""
-        ahead = len(self.rule.ahead)
-        return self.rule.class_of(hall) if hall < self.singles else ahead + hall - self.singles
+        ahead = len(self.bank_rule.ahead)
+        return self.bank_rule.class_of(hall) if hall < self.singles else ahead + hall - self.singles
 
     def stand_behind(self, hall, stand, digit):
         """The stand to which a digit of the start leads from a stand of a hall."""

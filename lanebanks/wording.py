@@ -16,3 +16,11 @@ def whole_in(word, most):
 def spaced(numbers):
     """The integers with single spaces between, `-` for none."""
     return " ".join([str(number) for number in numbers]) if numbers else "-"
+
+
+def signed_in(word, most):
+    """The integer from -most to most that a word tells as str writes it, None if it tells none."""
+    if word[:1] != "-":
+        return whole_in(word, most)
+    number = whole_in(word[1:], most)
+    return -number if number else None

@@ -2,10 +2,14 @@
 
 import random
 
-from lanebanks.compared import Freer, Told
+from lanebanks.compared import Freer, Parted, Told
+from lanebanks.desk import Desk
 from lanebanks.errors import BadRule, BankError
 from lanebanks.distances import Meets, Never
+from lanebanks.made import Padded, Unweighted
+from lanebanks.memory import Memory, Served
 from lanebanks.rules import Rule
+from lanebanks.seen import Found, Log, Shape
 from lanebanks.sets import NumberSet
 from lanebanks.tiles import Clear, Jam, Pattern
 from lanebanks.units import Clash, Free
@@ -17,6 +21,8 @@ ANY = [
     "x" * 4000, (), (1,), (1, 2), [], [1, 2], [None, [True, "z"]], {}, {"a": 1}, {1: [2, {3: ()}]}, DEEP,
     NumberSet.every(), Rule.modulo(4), Meets(1), Never((), ()), BadRule("x"), Pattern(0, 3), Clear({}), Jam(0, 0, 1),
     Free(()), Clash(1, 2, 0, 1), Shared(1, 0, (), ()), Told({0: 0}), Freer(1, ()),
+    Parted(0, 1), Padded(0, (), ()), Unweighted(()), Log(), Log((0, 1, False)), Shape((2,), 1, 1),
+    Found(Rule.modulo(2), Log()), Served((), 0), Memory(Rule.modulo(2)), Desk(),
 ]
 
 

@@ -1,7 +1,4 @@
-"""The examples of the document, word for word.
-
-Those of look_compared are left out: it is not written yet.
-"""
+"""The examples of the document, word for word."""
 
 import unittest
 
@@ -101,6 +98,7 @@ WORST = r"""
 
 COMPARED = r"""
 >>> from lanebanks.compared import Less, Parted, Same, Split, Told, first_unlike, freer, order, same_banks, tells
+>>> from lanebanks.look_compared import shows_freer, shows_same, shows_tells
 >>> from lanebanks.rules import Rule
 >>> plain, pad, two = Rule((4,), (1, 2), (0,)), Rule((4,), (1, 2, 1, 2), (0,)), Rule((2,), (1,), (0,))
 >>> [tells(plain, two) == Told({0: 0, 1: 1, 2: 0, 3: 1}), tells(two, plain) == Split(0, 2), tells(plain, pad) == Split(0, 4), tells(pad, plain) == Split(1, 4)]
@@ -109,18 +107,99 @@ COMPARED = r"""
 [True, True, True]
 >>> [freer(plain, pad, 4) == Less(4), freer(pad, plain, 4) == Less(1), first_unlike(plain, pad, 4), order(plain, pad, 4), order(plain, two, 2), bool(freer(plain, two, 2))]
 [True, True, 1, 'apart', 'better', True]
+>>> [shows_tells(two, plain, Split(1, 3)), shows_same(pad, plain, Parted(1, 4)), shows_freer(plain, pad, 4, Less(12)), shows_freer(plain, two, 2, freer(plain, two, 2))]
+[True, True, True, True]
+"""
+
+MADE = r"""
+>>> from lanebanks.look_made import shows_padding, shows_weights
+>>> from lanebanks.made import Padded, Unweighted, fewest_banks, first_padding, first_weights
+>>> [first_padding(4, 2, Pattern.strided(4, 4)).pad, bool(first_padding(4, 2, Pattern.strided(4, 1), Pattern.strided(4, 4))), first_weights(4, 2, Pattern.strided(4, 1)).weights, fewest_banks(Pattern.strided(4, 6)), fewest_banks(Pattern(3))]
+[1, False, (1, 2), 5, 2]
+>>> [shows_padding(4, 2, [Pattern(0, 4)], Padded(1, ((0, Jam(0, 0, 4)),), (clear(pad, Pattern(0, 4)),))), shows_weights(2, 1, [Pattern(0, 2)], Unweighted(((0, Jam(0, 0, 2)), (0, Jam(0, 0, 2))))), bool(first_weights(2, 1, Pattern(0, 2)))]
+[True, True, False]
+>>> first_padding(4, 13, Pattern(1))
+raises BadRule('every')
+"""
+
+SEEN = r"""
+>>> from lanebanks.seen import Found, Log, Shape, fitting, shows_found, surely, told_back
+>>> shape, log = Shape((2,), 1, 1), Log((0, 1, False))
+>>> [[str(rule) for rule in shape] == [str(Rule((2,), (one,), (other,))) for one in (0, 1) for other in (0, 1)], len(list(fitting(shape, log))), Rule((2,), (), (1,)) in shape, plain in shape]
+[True, 2, True, False]
+>>> [surely(shape, log, 2, 4), surely(shape, log, 0, 7), surely(shape, log, 0, 2), surely(shape, log + Log((0, 6, False)), 0, 0), log.first_against(Rule((2,), (0,), (1,)))]
+['met', 'apart', 'open', None, 0]
+>>> odd = Rule((2,), (), (1,))
+>>> found = told_back(shape, lambda first, second: odd(first) == odd(second))
+>>> [found == Found(odd, Log((0, 2, False), (0, 1, False))), shows_found(shape, found), shows_found(shape, Found(odd, Log((0, 1, False))))]
+[True, True, False]
+>>> Log((0, 1, False), (0, -1, True))
+raises BadLog(1)
+"""
+
+MEMORY = r"""
+>>> from lanebanks.memory import Memory, Served
+>>> memory = Memory(pad)
+>>> memory[4] = 7
+>>> memory.store(1, -2)
+>>> [memory[4], memory[5], memory.load(1, 2, 3, 4) == Served((-2, 0, 0, 7), 2), memory.load(4, 4, 4) == Served((7, 7, 7), 1), memory.clock, len(memory)]
+[7, 0, True, True, 3, 4]
+>>> [memory.load_unit(1, 1).ticks, memory.load_unit(0, 1).ticks, memory.load_unit(3, 4).ticks, memory.sweep(0, 5, 6), memory.undo(), memory.clock]
+[2, 1, 1, 3, 'sweep', 7]
+>>> memory.swap(Rule.modulo(4))
+>>> [memory.load_unit(0, 4).ticks, list(memory.words()), memory.tried(lambda same: (same.store(9, 1), same.clock)), len(memory), memory.twin().undo(), memory.clock]
+[4, [(1, -2), (4, 7)], (None, 11), 9, 'load', 11]
+>>> memory.load(1, -1)
+raises BadNumber(-1)
+>>> memory.load(0, 1, 2, 3, 4)
+raises TooMany('lanes', 4)
+"""
+
+TEXTS = r"""
+>>> from lanebanks.reader import read_log, read_setting, read_unit
+>>> from lanebanks.rules import Rule
+>>> from lanebanks.seen import Log
+>>> from lanebanks.texts import log_text, setting_text, unit_text
+>>> from lanebanks.units import Clash, Free
+>>> page = setting_text(Rule.modulo(4), 4, evens)
+>>> [page.split("\n"), read_setting(page) == (Rule.modulo(4), 4, evens), setting_text(Rule.modulo(2), 2).split("\n")[2]]
+[['rule moduli 4 ahead 1 2 round 0', 'lanes 4', 'starts 1 2 + / 1 1 + / 2 2 -'], True, 'starts all']
+>>> [log_text(Log((3, 4, True), (0, 1, False))).split("\n"), read_log("-") == Log(), unit_text(Clash(1, 5, 0, 3)), read_unit("free") == Free(())]
+[['3 4 met', '0 1 apart'], True, 'clash 1 5 0 3', True]
+>>> [unit_text(Free((((0, 0, 0, 0, 0, 0, 0),),))).split("\n"), read_unit("free\ntable").tables]
+[['free', 'table', '0 0 0 0 0 0 0'], ((),)]
+>>> read_log("3 4 met\n3 4")
+raises BadText(1, 2)
+>>> read_unit("free\n0 0 0 0 0 0 0")
+raises BadText(1, 0)
+"""
+
+DESK = r"""
+>>> from lanebanks.desk import Desk
+>>> desk = Desk()
+>>> desk.run("padded p 4 2 1", "modulo m 4", "memory x p 4", "store x 4 7", "load x 1 4", "unit x 1 1", "word x 4", "clock x")
+['ok', 'ok', 'ok', 'ok', '0 7 in 2', '2', '7', '4']
+>>> desk.run("free p 4 1", "free m 4 1", "next p 4 1", "count m 4 100", "clash p 4 1 1", "distance p 3", "distance m 2", "tells p m", "order m p 4", "worst p 4 1")
+['no', 'yes', '4', '51', '0 3', 'meets 1', 'never', 'no 1 4', 'apart', '2']
+>>> desk.run("back x", "clock x", "undo", "undo", "clock x", "cut p 2", "show p", "same p m", "names", "bank m 7")
+['load', '2', 'ok', 'ok', '2', 'ok', 'moduli 4 ahead 1 2 round 0', 'yes', 'm p / x', '3']
+>>> desk("free p 4")
+raises BadCommand(3)
+>>> desk("back y")
+raises NoName('y')
 """
 
 
 def outcome(line, names):
-    """What a line of an example shows: its value, what it raises, or nothing."""
+    """What a line of an example shows: its value unless it is None, what it raises, or nothing."""
     try:
         code = compile(line, "example", "eval")
     except SyntaxError:
         exec(line, names)
         return None
     try:
-        return repr(eval(code, names))
+        value = eval(code, names)
+        return None if value is None else repr(value)
     except ValueError as error:
         return "raises " + repr(error)
 
@@ -140,7 +219,7 @@ class DocumentTest(unittest.TestCase):
     def test_examples(self):
         # Examples use what earlier ones imported, and the names that were bound last.
         names = {}
-        for text in (SETS, RULES, DISTANCES, UNITS, TILES, WORST, COMPARED):
+        for text in (SETS, RULES, DISTANCES, UNITS, TILES, WORST, COMPARED, MADE, SEEN, MEMORY, TEXTS, DESK):
             self.check(text, names)
 
 

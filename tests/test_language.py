@@ -18,7 +18,8 @@ CHANGING = {"append", "clear", "extend", "insert", "pop", "remove", "reverse", "
 BARRED = set("""type typing typing_extensions enum Enum IntEnum StrEnum Flag IntFlag Generic Protocol ABC ABCMeta
 namedtuple NamedTuple TypedDict TYPE_CHECKING abstractmethod""".split())
 STATEMENTS = (ast.Assign, ast.AugAssign, ast.Try, ast.If, ast.While, ast.For, ast.Return, ast.Break, ast.Continue, ast.Pass,
-              ast.Raise, ast.Assert, ast.Delete, ast.Expr, ast.FunctionDef, ast.ClassDef, ast.ImportFrom)
+              ast.Raise, ast.Assert, ast.Delete, ast.Expr, ast.FunctionDef, ast.ClassDef, ast.ImportFrom, ast.With)
+CHANGES = ("__init__", "__call__", "__setitem__", "__enter__", "__exit__")
 NAMES = sorted(name for name in os.listdir(FOLDER) if name != "__pycache__")
 TEXTS = {name: pathlib.Path(FOLDER, name).read_text(encoding="utf-8") for name in NAMES}
 TREES = {name: ast.parse(text) for name, text in TEXTS.items()}
@@ -41,6 +42,11 @@ def imports(name):
     """The pairs of a module and a name that a file imports."""
     return [(node.module, part.name) for node in TREES[name].body if isinstance(node, ast.ImportFrom)
             for part in node.names]
+
+
+def marks_of(function):
+    """The decorators of a function: their names, of a setter that of the attribute."""
+    return [mark.attr if isinstance(mark, ast.Attribute) else mark.id for mark in function.decorator_list]
 
 
 def generators():
@@ -142,8 +148,7 @@ class NamesTest(unittest.TestCase):
         for node in CLASSES:
             self.assertEqual(node.decorator_list, [])
             for method in [part for part in node.body if isinstance(part, ast.FunctionDef)]:
-                marks = [mark.id for mark in method.decorator_list]
-                self.assertIn(marks, ([], ["property"], ["staticmethod"], ["classmethod"]))
+                self.assertIn(marks_of(method), ([], ["property"], ["setter"], ["staticmethod"], ["classmethod"]))
                 if method.args.vararg or method.args.kwarg:
                     self.assertTrue(method.args.args, method.name)
 
@@ -153,7 +158,7 @@ class NamesTest(unittest.TestCase):
             for node in ast.walk(tree):
                 self.assertNotIsInstance(node, ast.GeneratorExp, name)
                 if isinstance(node, ast.Call) and isinstance(node.func, ast.Name) and node.func.id in made:
-                    self.assertIn(name, ("sets.py", "listing.py"))
+                    self.assertIn(name, ("sets.py", "listing.py", "seen.py"))
 
     def test_kept_sums_are_by_whole_numbers(self):
         for name, tree in TREES.items():
@@ -215,7 +220,17 @@ class PlainTest(unittest.TestCase):
         for name, tree in TREES.items():
             for node in ast.walk(tree):
                 if isinstance(node, ast.Attribute) and isinstance(node.ctx, ast.Store):
-                    self.assertNotIn(node.attr, methods, name)
+                    # A Found keeps its rule by this name, and a memory has a property of this name.
+                    self.assertTrue(node.attr not in methods or (name, node.attr) == ("seen.py", "rule"), node.attr)
+
+    def test_ends_of_blocks_are_plain(self):
+        for name, function in FUNCTIONS:
+            ends = function.body if function.name == "__exit__" else []
+            for node in ast.walk(function):
+                ends = ends + (node.finalbody if isinstance(node, ast.Try) else [])
+            for node in ends:
+                self.assertIsInstance(node, ast.Assign, (name, function.name))
+                self.assertTrue(all(isinstance(part, (ast.Name, ast.Attribute)) for part in node.targets + [node.value]))
 
 
 def is_made(value):
@@ -250,8 +265,8 @@ class OperatorsTest(unittest.TestCase):
         for _, node in FUNCTIONS:
             table.setdefault(node.name, []).append(node)
         inits = {node.name: part for node in CLASSES for part in node.body if getattr(part, "name", "") == "__init__"}
-        waiting = [node for _, node in FUNCTIONS if [mark.id for mark in node.decorator_list] == ["property"]
-                   or node.name.startswith("__") and node.name not in ("__init__", "__call__")]
+        waiting = [node for _, node in FUNCTIONS if marks_of(node) == ["property"]
+                   or node.name.startswith("__") and node.name not in CHANGES]
         seen = []
         while waiting:
             function = waiting.pop()

@@ -5,6 +5,9 @@ import unittest
 from helping import ANY
 from lanebanks.compared import Freer, Less, Parted, Same, Split, Told
 from lanebanks.distances import Meets, Never
+from lanebanks.made import Padded, Unpadded, Unweighted, Weighted
+from lanebanks.memory import Served
+from lanebanks.seen import Found
 from lanebanks.tiles import Clear, Jam
 from lanebanks.units import Clash, Free
 from lanebanks.verdicts import Verdict
@@ -12,13 +15,16 @@ from lanebanks.worst import Shared
 
 YES = [
     (Meets, ["start"]), (Free, ["tables"]), (Clear, ["papers"]), (Told, ["names"]), (Same, ["names"]),
-    (Freer, ["strides", "tables"]),
+    (Freer, ["strides", "tables"]), (Padded, ["pad", "jams", "papers"]), (Weighted, ["weights", "papers"]),
 ]
 NO = [
     (Never, ["levels", "back"]), (Clash, ["stride", "start", "one", "other"]), (Jam, ["start", "one", "other"]),
-    (Split, ["first", "second"]), (Parted, ["first", "second"]), (Less, ["stride"]),
+    (Split, ["first", "second"]), (Parted, ["first", "second"]), (Less, ["stride"]), (Unpadded, ["jams"]),
+    (Unweighted, ["tree"]),
 ]
-OTHERS = [(Shared, ["number", "start", "stands", "behind"])]
+OTHERS = [
+    (Shared, ["number", "start", "stands", "behind"]), (Found, ["rule", "log"]), (Served, ["loaded", "ticks"]),
+]
 ALL = YES + NO + OTHERS
 
 

@@ -3,7 +3,6 @@
 from lanebanks.checks import is_integer, is_number
 from lanebanks.compared import Freer, Less, Parted, Same, Split, Told, both_free, check_rules, same_banks, tells
 from lanebanks.look_units import shows_unit
-from lanebanks.sets import NumberSet
 from lanebanks.units import Free
 
 
@@ -28,7 +27,7 @@ def shows_freer(one, other, lanes, value, starts=None, limit=2000):
     mine, strides = both_free(one, other, lanes, starts, limit)
     if isinstance(value, Less):
         return value.stride in strides and value.stride not in mine
-    if not isinstance(value, Freer) or not isinstance(value.strides, NumberSet) or value.strides != strides:
+    if not isinstance(value, Freer) or value.strides != strides:
         return False
     return shows_unit(one, lanes, strides, Free(value.tables), starts)
 

@@ -121,7 +121,8 @@ class PaddingTest(unittest.TestCase):
             jams = [paper.jams, paper.jams[:-1], paper.jams + paper.jams[-1:], list(paper.jams), jam_changed(rng, paper.jams),
                     changed(paper.jams, rng, FRESH), changed(paper.jams, rng, FRESH), turned(paper.jams)]
             values = [Unpadded(some) for some in jams] + [Padded(pad, some, papers) for some in jams]
-            values += [Padded(other, paper.jams, papers) for other in (pad - 1, pad + 1, 0, banks, True, None, "1")]
+            values += [Padded(other, paper.jams, papers) for other in (pad - 1, pad + 1, 0, banks, True, None, "1", pad - banks)]
+            values += [Padded(-1, paper.jams[:banks - 1], papers), Padded(-banks, (), papers)]
             values += [Padded(pad, paper.jams, other) for other in (
                 papers[:-1], papers + papers[-1:], list(papers), papers[::-1], changed(papers, rng, FRESH),
                 tuple(clear(Rule.modulo(banks), pattern) for pattern in patterns))]
@@ -141,6 +142,13 @@ class PaddingTest(unittest.TestCase):
             self.assertTrue(papers[0])
             for jams in ((), (jam,), (jam,) * 2, (jam,) * 3):
                 self.assertIs(shows_padding(4, 2, [pattern], Padded(pad, jams, papers)), (pad, jams) == (1, (jam,)))
+
+    def test_pads_below_0(self):
+        # Counted from the end -1 would be the pad 1, with all jams that it needs.
+        pattern = Pattern(0, 2)
+        jams, papers = ((0, Jam(0, 0, 2)),), (clear(Rule.padded(2, 1, 1), pattern),)
+        self.assertIs(shows_padding(2, 1, [pattern], Padded(1, jams, papers)), True)
+        self.assertIs(shows_padding(2, 1, [pattern], Padded(-1, jams, papers)), False)
 
     def test_jams_as_papers(self):
         jam = Jam(0, 0, 4)
@@ -225,6 +233,25 @@ class WeightsTest(unittest.TestCase):
         self.assertIs(shows_weights(2, 2, [many], Unweighted((one, (other, last)))), True)
         # The whole tree of all weights told, though a lesser one would do.
         self.assertIs(shows_weights(2, 2, [many], Unweighted(((one, one), (other, (0, Jam(4, 1, 2)))))), True)
+
+    def test_addresses_beyond_the_weights(self):
+        # With one weight told no address but 0 and 1 is told, whichever offset of a Jam stands first.
+        pattern = Pattern(0, 1, 2)
+        for jam in (Jam(0, 0, 2), Jam(0, 2, 0), Jam(1, 0, 1), Jam(1, 1, 0), Jam(0, 0, 1), Jam(0, 1, 0)):
+            for many in (1, 2):
+                tree = ((0, jam), (0, jam)) if many == 1 else (((0, jam), (0, jam)), ((0, jam), (0, jam)))
+                for places in (1, 2, 3):
+                    self.assertIs(shows_weights(2, places, [pattern], Unweighted(tree)), is_tree(2, places, [pattern], tree))
+        for jam in (Jam(0, 0, 2), Jam(0, 2, 0)):
+            self.assertIs(shows_weights(2, 2, [Pattern(0, 2)], Unweighted(((0, jam), (0, jam)))), False)
+            self.assertIs(shows_weights(2, 1, [Pattern(0, 2)], Unweighted(((0, jam), (0, jam)))), True)
+
+    def test_branches_behind_all_weights(self):
+        # By one weight more each pair would be right, but all weights are told already.
+        pair = (0, Jam(0, 0, 1))
+        tree = ((pair, pair), (0, Jam(0, 0, 2)))
+        self.assertIs(shows_weights(2, 1, [Pattern(0, 1, 2)], Unweighted((pair, tree[1]))), True)
+        self.assertIs(shows_weights(2, 1, [Pattern(0, 1, 2)], Unweighted(tree)), False)
 
     def test_weights_changed(self):
         rng, seen = rng_of(194), []

@@ -179,7 +179,7 @@ class ShapeTest(unittest.TestCase):
             if not (isinstance(value, (list, tuple)) and told(Rule, value, (), (0,)) == "none"):
                 self.assertEqual(told(Shape, value, -1, -1), (BadRule, {"part": "moduli"}))
         for value in without(lambda value: whole(value, 0, 24), ANY + [25]):
-            self.assertTrue(same(told(Shape, (32,), value, -1), (BadNumber, {"value": value})))
+            self.assertTrue(same(told(Shape, (32,), value, "turn"), (BadNumber, {"value": value})))
         for ahead in (0, 1, 10, 23, 24):
             for value in without(lambda value: whole(value, 1, 24 - ahead), ANY + [25 - ahead]):
                 self.assertTrue(same(told(Shape, (32,), ahead, value), (BadNumber, {"value": value})))
